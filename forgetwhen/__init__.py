@@ -1,0 +1,1 @@
+"""Forgetwhen: a control room with late news."""

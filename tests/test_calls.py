@@ -1,0 +1,175 @@
+"""Promise [2]: the order of errors, lists and tuples, names of parameters, arguments left as they were."""
+
+import copy
+import importlib
+
+from forgetwhen import errors
+from tests.support import RING, VALVE, Case, as_lists, has_list
+
+# Each argument: (name, a right value, a wrong one, its error, what this keeps). A value that may be anything has
+# no wrong one; PAPER says that lists may not stand for its tuples.
+PAPER = "paper"
+LEVEL = (((1, 1), (0, 0)), (0, 1))
+
+
+def machine(value=VALVE, name="machine"):
+    return (name, value, (((0,), (1,)), (100,)), errors.InvalidMachine, 1)
+
+
+def no_least(value=VALVE):
+    return ("machine", value, (((1, 0), (0, 0)), (5, 5)), errors.InvalidMachine, -1)
+
+
+def late(value=(0, 1)):
+    return ("late", value, (0, 0), errors.InvalidLate, 1)
+
+
+def word(value=(1, 0, 1), name="word"):
+    return (name, value, (0, 9), errors.InvalidWord, 1)
+
+
+def one_map(name="one", value=(1, 0)):
+    return (name, value, (0, True), errors.InvalidMap, 1)
+
+
+def story(value=((5, 1), (3, 0), (9, 1))):
+    return ("story", value, ((1, 0), (1, 0)), errors.InvalidStory, 1)
+
+
+def moment(name="moment", value=4):
+    return (name, value, 10 ** 6, errors.InvalidMoment, -1)
+
+
+def size(name, value, told=None):
+    return (name, value, True, errors.InvalidSize, told or name)
+
+
+def index(name="number", value=0):
+    return (name, value, 10 ** 9, errors.InvalidIndex, -1)
+
+
+def given(value, wrong, error, told):
+    return ("value", value, wrong, error, told)
+
+
+def anything(value):
+    return ("value", value, PAPER, None, None)
+
+
+CALLS = {
+    "machines": {
+        "need_machine": [given(VALVE, 3, errors.InvalidMachine, -1)],
+        "machine_sizes": [machine()],
+        "need_kind": [machine(), given(1, 2, errors.InvalidKind, -1)],
+        "need_state": [machine(), given(1, 2, errors.InvalidState, -1)],
+        "need_late": [machine(), given((1, 0), (2,), errors.InvalidLate, 0)],
+        "need_word": [machine(), given((1, 0), (0, 2), errors.InvalidWord, 1)],
+        "need_map": [machine(), given((1, 0), (0, 2), errors.InvalidMap, 1)],
+        "same_map": [machine()],
+        "map_then": [machine(), one_map(), one_map("other")],
+        "word_map": [machine(), word()],
+        "word_states": [machine(), word()],
+        "word_readings": [machine(), word()],
+        "reach_words": [machine()],
+    },
+    "least": {
+        "rounds": [machine(RING)],
+        "parting_word": [
+            machine(RING), ("one", 0, 4, errors.InvalidState, 0), ("other", 2, -1, errors.InvalidState, 1),
+        ],
+        "least_names": [machine(RING)],
+        "least_machine": [machine(RING)],
+        "is_least": [machine(RING)],
+        "alike_paper": [machine(name="one"), machine(RING, name="other")],
+        "alike_holds": [machine(name="one"), machine(name="other"), anything(("same", ((0, 0), (1, 1))))],
+        "machine_count": [size("states", 2), size("kinds", 1), size("shown", 2)],
+        "nth_machine": [size("states", 2), size("kinds", 1), size("shown", 2), index(value=7)],
+        "machine_number": [machine(), size("shown", 3)],
+    },
+    "stories": {
+        "need_story": [machine(), late(), given(((5, 1), (3, 0)), ((5, 2),), errors.InvalidStory, 0)],
+        "need_moment": [given(3, -3, errors.InvalidMoment, -1)],
+        "record": [machine(), late(), story()],
+        "story_states": [machine(), late(), story()],
+        "story_readings": [machine(), late(), story()],
+        "state_at": [machine(), late(), story(), moment()],
+        "cut_maps": [machine(), late(), story(), moment()],
+        "late_by": [machine(), late(), story()],
+        "story_places": [machine(), late(), story()],
+        "places_story": [machine(), late(), ("places", ((0, 1), (0, 0)), ((0, 1), (2, 0)), errors.InvalidPlaces, 1)],
+        "plain_story": [machine(), late(), story()],
+        "story_count": [machine(), late(), size("many", 3, "news")],
+        "nth_story": [machine(), late(), size("many", 3, "news"), index(value=9)],
+        "story_number": [machine(), late(), story()],
+    },
+    "maps": {
+        "all_maps": [no_least()],
+        "map_number": [no_least(), one_map()],
+        "idempotents": [no_least()],
+        "power_ring": [no_least(), one_map()],
+        "still_power": [no_least(), one_map()],
+        "undone_at": [no_least(), index()],
+    },
+}
+
+
+def all_calls():
+    for module, calls in CALLS.items():
+        found = importlib.import_module(f"forgetwhen.{module}")
+        for name, arguments in calls.items():
+            yield getattr(found, name), arguments
+
+
+class CallsTest(Case):
+    def test_first_wrong_argument_tells(self):
+        for call, arguments in all_calls():
+            for at, (_, _, wrong, error, told) in enumerate(arguments):
+                if error is None:
+                    continue
+                values = [argument[1] for argument in arguments[:at]] + [argument[2] for argument in arguments[at:]]
+                with self.subTest(call=call.__name__, at=at):
+                    self.refuses(error, told, call, *values)
+                    named = {argument[0]: value for argument, value in zip(arguments, values)}
+                    self.refuses(error, told, call, **named)
+
+    def test_one_wrong_argument(self):
+        for call, arguments in all_calls():
+            for at, (_, _, wrong, error, told) in enumerate(arguments):
+                if error is None:
+                    continue
+                values = [argument[1] for argument in arguments]
+                values[at] = wrong
+                with self.subTest(call=call.__name__, at=at):
+                    self.refuses(error, told, call, *values)
+
+    def test_equal_results(self):
+        for call, arguments in all_calls():
+            values = [argument[1] for argument in arguments]
+            with self.subTest(call=call.__name__):
+                result = call(*values)
+                self.assertFalse(has_list(result))
+                self.is_just(call(*values), result)
+                self.is_just(call(**{argument[0]: argument[1] for argument in arguments}), result)
+                lists = [value if kind[2] == PAPER else as_lists(value) for kind, value in zip(arguments, values)]
+                kept = copy.deepcopy(lists)
+                self.is_just(call(*lists), result)
+                self.is_just(lists, kept)
+
+    def test_wrong_lists_stay_as_they_were(self):
+        for call, arguments in all_calls():
+            for at, (_, _, wrong, error, _) in enumerate(arguments):
+                if error is None:
+                    continue
+                values = [as_lists(argument[1]) for argument in arguments]
+                values[at] = as_lists(wrong)
+                kept = copy.deepcopy(values)
+                with self.assertRaises(error):
+                    call(*values)
+                self.is_just(values, kept)
+
+    def test_bools_are_no_integers_in_machines(self):
+        for call, arguments in all_calls():
+            if arguments[0][0] == "machine":
+                others = [argument[1] for argument in arguments[1:]]
+                self.refuses(errors.InvalidMachine, 0, call, (((True, 0), (0, 0)), (0, 1)), *others)
+                self.refuses(errors.InvalidMachine, 2, call, (((1, 0), (0, 0)), (False, 1)), *others)
