@@ -5,6 +5,7 @@ import importlib
 
 from forgetwhen import errors
 from tests.support import RING, VALVE, Case, as_lists, has_list
+from tests.test_tables import CLOSING
 
 # Each argument: (name, a right value, a wrong one, its error, what this keeps). A value that may be anything has
 # no wrong one; PAPER says that lists may not stand for its tuples.
@@ -54,6 +55,32 @@ def given(value, wrong, error, told):
 
 def anything(value):
     return ("value", value, PAPER, None, None)
+
+
+def held_paper(value, wrong=()):
+    """A paper that must hold."""
+    return ("value", value, wrong, errors.InvalidPaper, -1)
+
+
+def place(value=0):
+    return ("place", value, 10 ** 9, errors.InvalidIndex, -1)
+
+
+def twin(value=CLOSING):
+    return ("twin", value, (0, ((),), (0,)), errors.InvalidTwin, 0)
+
+
+def text(value):
+    return ("text", value, 7, errors.InvalidText, -1)
+
+
+def stirred(value=((1, 0), (0, 1))):
+    return ("stirred", value, ((1, 0), (0, 2)), errors.InvalidWord, 1)
+
+
+def is_paper(argument):
+    """Whether lists may not stand for its tuples."""
+    return argument[2] == PAPER or argument[3] is errors.InvalidPaper
 
 
 CALLS = {
@@ -110,6 +137,44 @@ CALLS = {
         "still_power": [no_least(), one_map()],
         "undone_at": [no_least(), index()],
     },
+    "needed": {
+        "word_sets": [machine(), late(), word()],
+        "word_relations": [machine(), late(), word()],
+        "needed_news": [machine(), late(), word()],
+        "need_paper": [machine(), late(), word(), place(2)],
+        "need_holds": [machine(), late(), word((1,)), place(), anything(("needed", ((),), 0, ((),), ()))],
+        "needed_moments": [machine(), late(), story()],
+        "two_stories": [
+            machine(), late(), story(((20, 1),)), place(), held_paper(("needed", ((),), 0, ((),), ())),
+        ],
+    },
+    "tables": {
+        "need_twin": [machine(), given(CLOSING, (0, (), ()), errors.InvalidTwin, -1)],
+        "twin_sizes": [machine(), twin()],
+        "twin_stands": [machine(), twin(), late(), story()],
+        "twin_readings": [machine(), twin(), late(), story()],
+        "first_wrong": [machine(), twin(), late(), story()],
+    },
+    "timeline": {
+        "least_news": [size("depth", 7)],
+    },
+    "court": {
+        "stirred_maps": [no_least(), late(), stirred()],
+        "stirred_turns": [no_least(), late(), index(value=2)],
+        "deep_turns": [no_least(), late(), index(value=2)],
+        "court_paper": [no_least(), late()],
+        "court_holds": [no_least(), late((0,)), anything(("level", ((0, 0, 0),)))],
+        "loops_forget": [no_least(), late()],
+        "plain_forget": [no_least(), late()],
+    },
+    "texts": {
+        "machine_text": [machine(), late()],
+        "story_text": [machine(), late(), story()],
+        "twin_text": [machine(), twin()],
+        "read_machine": [text("machine 2\nlate 1 0\nprompt 0 0\nshows 0 1")],
+        "read_story": [machine(), late(), text("at 5 kind 1\nat 3 kind 0")],
+        "read_twin": [machine(), text("twin 1 marks 0\nbegins 0\nshows 5\nword 0 marks 0 to 0 to 0")],
+    },
 }
 
 
@@ -150,7 +215,7 @@ class CallsTest(Case):
                 self.assertFalse(has_list(result))
                 self.is_just(call(*values), result)
                 self.is_just(call(**{argument[0]: argument[1] for argument in arguments}), result)
-                lists = [value if kind[2] == PAPER else as_lists(value) for kind, value in zip(arguments, values)]
+                lists = [value if is_paper(kind) else as_lists(value) for kind, value in zip(arguments, values)]
                 kept = copy.deepcopy(lists)
                 self.is_just(call(*lists), result)
                 self.is_just(lists, kept)

@@ -14,6 +14,20 @@ STAGE_ONE = """
     (((0, 1), (0, 0), (2, 0)), (0, 0, 0, 1))
 """
 
+# Of the examples in chapters 1, 4 and 12, what needs these modules alone.
+STAGE_TWO = """
+    >>> from forgetwhen.needed import need_paper, needed_news, two_stories
+    >>> from forgetwhen.texts import read_machine
+    >>> valve = (((1, 0), (0, 0)), (0, 1))
+    >>> two_stories(valve, (0, 1), ((20, 1),), 0, need_paper(valve, (0, 1), (1,), 0))
+    (((1, 1), (0, 0)), ((1, 1), (2, 0)))
+    >>> last = (((0, 0), (1, 1)), (0, 1))
+    >>> needed_news(last, (0, 1), (0, 1, 1)), need_paper(last, (0, 1), (0,), 0)[0]
+    ((2,), 'needed')
+    >>> read_machine("machine 2\\nlate 1 0\\nprompt 0 0\\nshows 0 1") == (valve, (0,))
+    True
+"""
+
 
 class ExamplesTest(unittest.TestCase):
     def holds(self, text, name):
@@ -25,6 +39,7 @@ class ExamplesTest(unittest.TestCase):
 
     def test_document(self):
         self.holds(STAGE_ONE, "stage one")
+        self.holds(STAGE_TWO, "stage two")
 
     def test_readme(self):
         self.holds((pathlib.Path(__file__).parent.parent / "README.md").read_text(), "README.md")

@@ -31,10 +31,47 @@ FUNCTIONS = {
         "all_maps": "machine", "map_number": "machine one", "idempotents": "machine", "power_ring": "machine one",
         "still_power": "machine one", "undone_at": "machine number",
     },
+    "needed": {
+        "word_sets": "machine late word", "word_relations": "machine late word", "needed_news": "machine late word",
+        "need_paper": "machine late word place", "need_holds": "machine late word place value",
+        "needed_moments": "machine late story", "two_stories": "machine late story place value",
+    },
+    "tables": {
+        "need_twin": "machine value", "twin_sizes": "machine twin", "twin_stands": "machine twin late story",
+        "twin_readings": "machine twin late story", "first_wrong": "machine twin late story",
+    },
+    "timeline": {"least_news": "depth"},
+    "court": {
+        "stirred_maps": "machine late stirred", "stirred_turns": "machine late number",
+        "deep_turns": "machine late number", "court_paper": "machine late", "court_holds": "machine late value",
+        "loops_forget": "machine late", "plain_forget": "machine late",
+    },
+    "texts": {
+        "machine_text": "machine late", "story_text": "machine late story", "twin_text": "machine twin",
+        "read_machine": "text", "read_story": "machine late text", "read_twin": "machine text",
+    },
+}
+
+# Each class with its parameters, and its methods with theirs.
+CLASSES = {
+    "timeline": {
+        "Timeline": ("machine", {
+            "put_in": "moment kind", "strike_out": "moment", "state_now": "", "state_by": "moment",
+            "map_between": "one other", "all_news": "", "depth": "",
+        }),
+    },
 }
 
 
 class InterfaceTest(unittest.TestCase):
+    def takes(self, function, parameters):
+        """The function takes just these, by position or by name, all of them wanted."""
+        told = inspect.signature(function).parameters.values()
+        self.assertEqual([parameter.name for parameter in told], parameters.split(), function.__qualname__)
+        for parameter in told:
+            self.assertEqual(parameter.kind, inspect.Parameter.POSITIONAL_OR_KEYWORD, function.__qualname__)
+            self.assertIs(parameter.default, inspect.Parameter.empty, function.__qualname__)
+
     def test_functions(self):
         for module, functions in FUNCTIONS.items():
             found = importlib.import_module(f"forgetwhen.{module}")
@@ -42,8 +79,16 @@ class InterfaceTest(unittest.TestCase):
                 function = getattr(found, name)
                 self.assertTrue(inspect.isfunction(function), name)
                 self.assertEqual(function.__module__, f"forgetwhen.{module}", name)
-                told = inspect.signature(function).parameters.values()
-                self.assertEqual([parameter.name for parameter in told], parameters.split(), name)
-                for parameter in told:
-                    self.assertEqual(parameter.kind, inspect.Parameter.POSITIONAL_OR_KEYWORD, name)
-                    self.assertIs(parameter.default, inspect.Parameter.empty, name)
+                self.takes(function, parameters)
+
+    def test_classes(self):
+        for module, classes in CLASSES.items():
+            found = importlib.import_module(f"forgetwhen.{module}")
+            for name, (parameters, methods) in classes.items():
+                told = getattr(found, name)
+                self.assertTrue(inspect.isclass(told), name)
+                self.assertEqual(told.__module__, f"forgetwhen.{module}", name)
+                self.takes(told.__init__, f"self {parameters}")
+                for method, wanted in methods.items():
+                    self.assertIn(method, vars(told), name)
+                    self.takes(vars(told)[method], f"self {wanted}")

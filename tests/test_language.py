@@ -19,6 +19,7 @@ NODES = (
     ast.Subscript, ast.Starred, ast.Name, ast.List, ast.Tuple, ast.Slice, ast.JoinedStr, ast.FormattedValue,
     ast.expr_context, ast.boolop, ast.operator, ast.unaryop, ast.cmpop,
 )
+LIBRARY = {"heapq": {"heappush", "heappop", "heapify"}}
 # Whoever runs an example binds `_` there, too.
 PYTHONS_OWN = set(dir(builtins)) - {"_"}
 BARRED_NODES = (ast.Div, ast.MatMult, ast.Pow)
@@ -149,7 +150,10 @@ class LanguageTest(unittest.TestCase):
         for path in FILES:
             needs[path.stem] = []
             for node in ast.walk(parsed(path)):
-                if isinstance(node, ast.ImportFrom):
+                if isinstance(node, ast.ImportFrom) and node.module in LIBRARY:
+                    self.assertEqual([name for name in node.names if name.asname], [], path.name)
+                    self.assertLessEqual({name.name for name in node.names}, LIBRARY[node.module], path.name)
+                elif isinstance(node, ast.ImportFrom):
                     package, _, module = node.module.partition(".")
                     self.assertEqual((package, node.level), ("forgetwhen", 0), path.name)
                     needs[path.stem].append(module)
