@@ -32,30 +32,28 @@ def moves(machine, late, word, place, node):
 
 
 def fewest_letters(machine, late, word, place):
-    """(came, node): the first node behind a tail, by letters, and whence each node was come to; None: no node."""
+    """(came, node): the first node behind a tail, by letters, and whence each node was come to.
+
+    There is such a node if the news at the place are needed.
+    """
     begin = (0, (0,))
     letters = {begin: 0}
     came = {begin: None}
     queue = [(0, begin)]
-    while queue:
+    while True:
         many, node = heappop(queue)
         if node[0] > len(word):
             return came, node
-        if many > letters[node]:
-            continue
         for more, put, behind in moves(machine, late, word, place, node):
             if behind not in letters or many + more < letters[behind]:
                 letters[behind] = many + more
                 came[behind] = (node, put)
                 heappush(queue, (many + more, behind))
-    return came, None
 
 
 def parting_way(machine, late, word, place):
-    """(ahead, kind, behind, tail) with the fewest letters in all, or None: the news at the place are free."""
+    """(ahead, kind, behind, tail) with the fewest letters in all, for needed news."""
     came, node = fewest_letters(machine, late, word, place)
-    if node is None:
-        return None
     node, tail = came[node]
     words = [[] for _ in range(len(word) + 1)]
     kind = None

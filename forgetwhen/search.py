@@ -30,13 +30,6 @@ def search(begins, ways, behind, found=None, most=None):
     return nodes, came, at
 
 
-def begin_of(came, number):
-    """The number of the begin from which a node was come to."""
-    while came[number] is not None:
-        number = came[number][0]
-    return number
-
-
 def word_to(came, number):
     """The ways that lead from its begin to a node."""
     ways = []

@@ -288,6 +288,8 @@ class CourtTest(Case):
                     self.assertIs(court_holds(machine, late, ("amid", paper[1])), is_against(machine, "amid", paper[1]))
                     self.assertIs(court_holds(machine, late, ("alone", paper[1] * 3)), True)
                     self.assertIs(court_holds(machine, late, ("alone", paper[1] * 601)), True)
+                    for word in ("level", "apart", "", None, 0):
+                        self.assertIs(court_holds(machine, late, (word, paper[1])), False)
         self.assertGreater(found, 3)
 
     def test_any_value(self):

@@ -293,4 +293,6 @@ class NumbersTest(Case):
         self.refuses(InvalidSize, "shown", machine_number, EIGHT, 101)
         self.refuses(InvalidSize, "shown", machine_number, VALVE, 1)
         self.is_just(machine_number(VALVE, 2), 0b100001)
+        self.is_just(machine_number((((0, 1),), (0, 0)), 1), 1)
+        self.refuses(InvalidSize, "shown", machine_number, (((0, 1),), (0, 0)), 0)
         self.refuses(InvalidMachine, 0, machine_number, VALVE[0], 0)

@@ -88,6 +88,30 @@ def two_readings(machine, word, place, value):
     return told
 
 
+def free_by_force(machine, late, word, place, sets, relations):
+    """Whether sets and relations are a paper, part by part."""
+    maps, readings = machine
+    pairs = [(one, other) for one in range(len(readings)) for other in range(len(readings))]
+
+    def like_to_like(kind, ahead, behind):
+        return all(behind[maps[kind][s]] == behind[maps[kind][t]] for s, t in pairs if ahead[s] == ahead[t])
+
+    wanted = [0 in sets[0], all(readings[s] == readings[t] for s, t in pairs if relations[-1][s] == relations[-1][t])]
+    wanted += [like_to_like(kind, relations[-1], relations[-1]) for kind in range(len(maps))]
+    for gap, states in enumerate(sets):
+        wanted += [maps[kind][state] in states for kind in late for state in states]
+        wanted += [like_to_like(kind, relations[gap], relations[gap]) for kind in late]
+    for gap, kind in enumerate(word):
+        wanted += [maps[kind][state] in sets[gap + 1] for state in sets[gap]]
+        wanted.append(like_to_like(kind, relations[gap], relations[gap + 1]))
+    classes = relations[place + 1]
+    for state in sets[place]:
+        for kind in late:
+            one, other = run(machine, state, (kind, word[place])), run(machine, state, (word[place], kind))
+            wanted.append(classes[one] == classes[other])
+    return all(wanted)
+
+
 class SetsTest(Case):
     def test_examples(self):
         self.is_just(word_sets(VALVE, (0,), (1,)), ((0, 1), (0, 1)))
@@ -330,6 +354,32 @@ class PaperTest(Case):
         self.assertIs(need_holds(chain, (0,), (1,), 0, ("free", ((0, 1, 2), (0, 1, 2)), ((0, 1, 2), (0, 1, 2)))), True)
         self.assertIs(need_holds(chain, (0,), (1,), 0, ("free", ((0, 1, 2), (0, 1)), ((0, 1, 2), (0, 1, 2)))), False)
         self.assertIs(need_holds(chain, (0,), (1,), 0, ("free", ((0, 2), (0, 1, 2)), ((0, 1, 2), (0, 1, 2)))), False)
+
+    def test_free_papers_by_force(self):
+        """Papers with a number or two changed hold just if they do by the words of the promise."""
+        chance = Chance(51)
+        told = {True: 0, False: 0}
+        for machine, late, word in cases(51, 250, 3, 2, 3):
+            if not word:
+                continue
+            for _ in range(8):
+                sets = [list(states) for states in word_sets(machine, late, word)]
+                relations = [list(classes) for classes in word_relations(machine, late, word)]
+                for _ in range(1 + chance.below(2)):
+                    gap = chance.below(len(word) + 1)
+                    state = chance.below(len(machine[1]))
+                    if chance.below(3) == 0:
+                        relations[gap][state] = chance.below(len(machine[1]))
+                    elif state in sets[gap]:
+                        sets[gap].remove(state)
+                    else:
+                        sets[gap].append(state)
+                sets, relations = tuple(map(tuple, sets)), tuple(map(tuple, relations))
+                place = chance.below(len(word))
+                wanted = free_by_force(machine, late, word, place, sets, relations)
+                self.assertIs(need_holds(machine, late, word, place, ("free", sets, relations)), wanted)
+                told[wanted] += 1
+        self.assertGreater(min(told.values()), 100)
 
     def test_any_value(self):
         for value in ODD_VALUES:
