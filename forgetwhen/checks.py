@@ -42,3 +42,13 @@ def first_not_below(values, limit):
         if not is_below(value, limit):
             return at
     return None
+
+
+def is_lot_below(values, limit):
+    """Whether they are ascending, unlike numbers below the limit."""
+    last = -1
+    for value in values:
+        if not (is_below(value, limit) and value > last):
+            return False
+        last = value
+    return True

@@ -2,56 +2,32 @@
 
 from forgetwhen.checks import all_below, is_below, is_integer, is_tuple_of
 from forgetwhen.errors import InvalidIndex, InvalidPaper, InvalidSize
-from forgetwhen.least import class_rounds
+from forgetwhen.gaps import Gaps, is_parted
 from forgetwhen.machines import need_late, need_machine, need_word, state_behind, then
 from forgetwhen.parting import parting_way
-from forgetwhen.search import search
 from forgetwhen.stories import MOST_NEWS, kinds_by_moments, need_story
 
 
-def late_states(maps, late, begins):
-    """The states that late words lead these to, ascending."""
-    states, _, _ = search(begins, late, lambda state, kind: maps[kind][state])
-    return tuple(sorted(states))
+def ways_of(machine, word):
+    """The maps of a word's kinds."""
+    return [machine[0][kind] for kind in word]
 
 
 def sets_of(machine, late, word):
     """The sets of all gaps, of things that were looked at."""
-    maps = machine[0]
-    sets = [late_states(maps, late, (0,))]
-    for kind in word:
-        sets.append(late_states(maps, late, then(sets[-1], maps[kind])))
-    return tuple(sets)
+    gaps = Gaps(machine, late)
+    return gaps.sets_along(gaps.first, ways_of(machine, word))
 
 
 def relations_of(machine, late, word):
     """The relations of all gaps, of things that were looked at."""
-    maps, readings = machine
-    late_maps = [maps[kind] for kind in late]
-    relations = [class_rounds(readings, maps)[-1]]
-    for kind in reversed(word):
-        relations.append(class_rounds(then(maps[kind], relations[-1]), late_maps)[-1])
-    return tuple(reversed(relations))
-
-
-def is_parted(maps, late, kind, states, classes):
-    """Whether news of a kind are needed between these states and these classes."""
-    for put in late:
-        for state in states:
-            if classes[maps[kind][maps[put][state]]] != classes[maps[put][maps[kind][state]]]:
-                return True
-    return False
+    return Gaps(machine, late).relations_along(ways_of(machine, word))
 
 
 def needed_of(machine, late, word):
     """The places of needed news, of things that were looked at."""
-    sets = sets_of(machine, late, word)
-    relations = relations_of(machine, late, word)
-    needed = []
-    for place, kind in enumerate(word):
-        if is_parted(machine[0], late, kind, sets[place], relations[place + 1]):
-            needed.append(place)
-    return tuple(needed)
+    gaps = Gaps(machine, late)
+    return gaps.needed_along(gaps.first, ways_of(machine, word))
 
 
 def need_record(machine, late, word):
@@ -159,7 +135,7 @@ def free_holds(machine, late, word, place, value):
         return False
     if not (sets_hold(machine[0], late, word, sets) and relations_hold(machine, late, word, relations)):
         return False
-    return not is_parted(machine[0], late, word[place], sets[place], relations[place + 1])
+    return not is_parted(machine[0], late, machine[0][word[place]], sets[place], relations[place + 1])
 
 
 def leads_into(one, states, behind):

@@ -1,6 +1,6 @@
 """Tables of twins, and what they show along a story."""
 
-from forgetwhen.checks import is_below, is_row_of, is_row_within
+from forgetwhen.checks import is_below, is_lot_below, is_row_of, is_row_within
 from forgetwhen.errors import InvalidTwin
 from forgetwhen.machines import READINGS, need_machine
 from forgetwhen.stories import need_story, story_readings
@@ -11,14 +11,7 @@ MOST_MARKS = 6
 
 def is_kept(value, many, most):
     """Whether any value is an ascending row of unlike numbers below many, at most so many."""
-    if not is_row_within(value, 0, most):
-        return False
-    last = -1
-    for number in value:
-        if not (is_below(number, many) and number > last):
-            return False
-        last = number
-    return True
+    return is_row_within(value, 0, most) and is_lot_below(value, many)
 
 
 def need_rule(value, words, most, number, word):

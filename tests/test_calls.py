@@ -78,6 +78,14 @@ def stirred(value=((1, 0), (0, 1))):
     return ("stirred", value, ((1, 0), (0, 2)), errors.InvalidWord, 1)
 
 
+def row(name="row", value=(((0, 1), (1, 0)), (1,))):
+    return (name, value, (((0, 1), (1, 2)), (1,)), errors.InvalidItems, -1)
+
+
+def told_row(name="told_row", value=((((0, 1), (1, 0)), (1,)), (4,))):
+    return (name, value, ((((0, 1), (1, 0)), (1,)), (4, 5)), errors.InvalidItems, -1)
+
+
 def is_paper(argument):
     """Whether lists may not stand for its tuples."""
     return argument[2] == PAPER or argument[3] is errors.InvalidPaper
@@ -174,6 +182,48 @@ CALLS = {
         "read_machine": [text("machine 2\nlate 1 0\nprompt 0 0\nshows 0 1")],
         "read_story": [machine(), late(), text("at 5 kind 1\nat 3 kind 0")],
         "read_twin": [machine(), text("twin 1 marks 0\nbegins 0\nshows 5\nword 0 marks 0 to 0 to 0")],
+    },
+    "twins": {
+        "first_row": [machine()],
+        "record_row": [machine(), late(), word()],
+        "row_needed": [machine(), late(), row()],
+        "row_step": [machine(), late(), row(), place(), ("kind", 1, 2, errors.InvalidKind, -1)],
+        "row_state": [machine(), row()],
+        "row_reading": [machine(), row()],
+        "row_form": [machine(), late(), row()],
+        "rows_paper": [machine(), late(), row("one"), row("other", (((0, 0), (1, 0)), (1,)))],
+        "rows_hold": [machine(), late((0,)), row("one"), row("other"), anything(("apart", ((), ()), ()))],
+    },
+    "web": {
+        "forward_sets": [machine(), late()],
+        "set_words": [machine(), late()],
+        "backward_relations": [machine(), late()],
+        "relation_words": [machine(), late()],
+        "web": [machine(), late()],
+        "web_way": [machine(), late(), word()],
+        "standing_steps": [machine(), late()],
+    },
+    "fewest": {
+        "met_rows": [machine(), late((0,))],
+        "fewest_words": [machine(), late((0,))],
+        "least_twin": [machine(), late((0,))],
+    },
+    "late": {
+        "late_fault": [no_least()],
+        "late_fault_holds": [no_least(), anything(("bound", (0,), (0,), (1,)))],
+        "most_kept": [size("states", 5)],
+        "steep_machine": [size("states", 5)],
+        "steep_word": [size("states", 5)],
+    },
+    "letters": {
+        "own_row": [machine(), ("news", ((5, 1), (3, 0)), ((1, 0), (1, 0)), errors.InvalidStory, 1)],
+        "join_rows": [machine(), told_row("one"), told_row("other", ((((0, 0), (1, 0)), (0,)), (7,)))],
+        "whole_reading": [machine(), told_row()],
+        "parting_rooms": [machine(), word((0, 1, 0)), place(2)],
+        "need_letter": [
+            machine(), size("many", 1, "rooms"),
+            given(((3, (((0, 1), (1, 0)), (1,)), (4,)),), ((3, (), ()),), errors.InvalidLetter, 0),
+        ],
     },
 }
 

@@ -28,6 +28,19 @@ STAGE_TWO = """
     True
 """
 
+STAGE_THREE = """
+    >>> from forgetwhen.twins import LeastTwin
+    >>> valve = (((1, 0), (0, 0)), (0, 1))
+    >>> twin = LeastTwin(valve, (0,))
+    >>> twin.hear(20, 1), twin.hear(30, 0), twin.hear(10, 0), twin.hear(25, 0), twin.marks(), twin.reading()
+    (None, None, None, None, (20,), 0)
+    >>> from forgetwhen.needed import needed_news, need_paper
+    >>> from forgetwhen.fewest import fewest_words
+    >>> last = (((0, 0), (1, 1)), (0, 1))
+    >>> needed_news(last, (0, 1), (0, 1, 1)), need_paper(last, (0, 1), (0,), 0)[0], fewest_words(last, (0, 1))
+    ((2,), 'needed', 2)
+"""
+
 
 class ExamplesTest(unittest.TestCase):
     def holds(self, text, name):
@@ -40,6 +53,7 @@ class ExamplesTest(unittest.TestCase):
     def test_document(self):
         self.holds(STAGE_ONE, "stage one")
         self.holds(STAGE_TWO, "stage two")
+        self.holds(STAGE_THREE, "stage three")
 
     def test_readme(self):
         self.holds((pathlib.Path(__file__).parent.parent / "README.md").read_text(), "README.md")

@@ -50,6 +50,26 @@ FUNCTIONS = {
         "machine_text": "machine late", "story_text": "machine late story", "twin_text": "machine twin",
         "read_machine": "text", "read_story": "machine late text", "read_twin": "machine text",
     },
+    "twins": {
+        "first_row": "machine", "row_needed": "machine late row", "row_step": "machine late row place kind",
+        "record_row": "machine late word", "row_state": "machine row", "row_reading": "machine row",
+        "row_form": "machine late row", "rows_paper": "machine late one other",
+        "rows_hold": "machine late one other value",
+    },
+    "web": {
+        "forward_sets": "machine late", "set_words": "machine late", "backward_relations": "machine late",
+        "relation_words": "machine late", "web": "machine late", "web_way": "machine late word",
+        "standing_steps": "machine late",
+    },
+    "fewest": {"met_rows": "machine late", "fewest_words": "machine late", "least_twin": "machine late"},
+    "late": {
+        "late_fault": "machine", "late_fault_holds": "machine value", "most_kept": "states",
+        "steep_machine": "states", "steep_word": "states",
+    },
+    "letters": {
+        "own_row": "machine news", "join_rows": "machine one other", "whole_reading": "machine told_row",
+        "parting_rooms": "machine word place", "need_letter": "machine many value",
+    },
 }
 
 # Each class with its parameters, and its methods with theirs.
@@ -58,6 +78,13 @@ CLASSES = {
         "Timeline": ("machine", {
             "put_in": "moment kind", "strike_out": "moment", "state_now": "", "state_by": "moment",
             "map_between": "one other", "all_news": "", "depth": "",
+        }),
+    },
+    "twins": {"LeastTwin": ("machine late", {"hear": "moment kind", "marks": "", "row": "", "reading": ""})},
+    "letters": {
+        "Rooms": ("machine many", {
+            "hear": "room moment kind", "letter": "room", "take": "room letter", "known": "room",
+            "joined_row": "room", "shown": "room",
         }),
     },
 }
