@@ -1,7 +1,7 @@
 """The maps of all words of a least machine, powers of maps, and what can be undone."""
 
 from forgetwhen.least import need_least
-from forgetwhen.machines import need_map, same_map, then
+from forgetwhen.machines import need_map, then
 from forgetwhen.monoid import Monoid
 
 MOST_MAPS = 300
@@ -29,8 +29,12 @@ def idempotents(machine):
 def power_ring(machine, one):
     """(lead, turn): from the lead on, so many times more of a map change nothing of its power."""
     machine = need_least(machine)
-    one = need_map(machine, one)
-    power = same_map(machine)
+    return ring_of_powers(need_map(machine, one))
+
+
+def ring_of_powers(one):
+    """(lead, turn) of a map that was looked at."""
+    power = tuple(range(len(one)))
     times = {}
     while power not in times:
         times[power] = len(times)
@@ -40,7 +44,13 @@ def power_ring(machine, one):
 
 def still_power(machine, one):
     """The least number from 1 on such that so many times a map is idempotent."""
-    lead, turn = power_ring(machine, one)
+    machine = need_least(machine)
+    return still_times(need_map(machine, one))
+
+
+def still_times(one):
+    """The same, of a map that was looked at."""
+    lead, turn = ring_of_powers(one)
     many = 1
     # So many times the map, and twice as many, are one power exactly then.
     while many < lead or many % turn != 0:

@@ -71,7 +71,11 @@ def need_place(word, value):
 def need_paper(machine, late, word, place):
     """A paper that tells why the news at a place are needed, or free."""
     machine, late, word = need_record(machine, late, word)
-    place = need_place(word, place)
+    return paper_of(machine, late, word, need_place(word, place))
+
+
+def paper_of(machine, late, word, place):
+    """The paper, of things that were looked at; the word may be longer than 400 kinds."""
     if place not in needed_of(machine, late, word):
         return ("free", sets_of(machine, late, word), relations_of(machine, late, word))
     ahead, kind, behind, tail = parting_way(machine, late, word, place)
@@ -186,10 +190,16 @@ def two_stories(machine, late, story, place, value):
     place = need_place(word, place)
     if not needed_holds(machine, late, word, place, value):
         raise InvalidPaper(-1)
-    _, ahead, kind, behind, tail = value
-    words = ahead + behind
-    if len(story) + sum(len(letters) for letters in words) + 1 + len(tail) > MOST_NEWS:
+    one, other = stories_of(story, place, value)
+    if len(one) > MOST_NEWS:
         raise InvalidSize("news")
+    return (one, other)
+
+
+def stories_of(story, place, paper):
+    """The two stories of a paper that holds, however long."""
+    _, ahead, kind, behind, tail = paper
+    words = ahead + behind
     moments, put, below, above, last = gap_moments(sorted(story), place, words)
     heard = [*[(moments[moment], own) for moment, own in story], *put]
     on_end = [(last + at, own) for at, own in enumerate(tail)]

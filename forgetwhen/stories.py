@@ -54,10 +54,14 @@ def record(machine, late, story):
 def story_states(machine, late, story):
     """The states behind each beginning of a story, from none to all news."""
     machine = need_machine(machine)
-    story = need_story(machine, late, story)
+    return states_along(machine[0], need_story(machine, late, story))
+
+
+def states_along(maps, story):
+    """The states behind each beginning, of things that were looked at; the story may be longer than 400 news."""
     states = []
     for many in range(len(story) + 1):
-        states.append(state_behind(machine[0], 0, kinds_by_moments(story[:many])))
+        states.append(state_behind(maps, 0, kinds_by_moments(story[:many])))
     return tuple(states)
 
 

@@ -3,7 +3,7 @@
 from forgetwhen.checks import is_below, is_lot_below, is_row_of, is_row_within
 from forgetwhen.errors import InvalidTwin
 from forgetwhen.machines import READINGS, need_machine
-from forgetwhen.stories import need_story, story_readings
+from forgetwhen.stories import need_story, states_along
 
 MOST_WORDS = 60
 MOST_MARKS = 6
@@ -75,9 +75,14 @@ def twin_stands(machine, twin, late, story):
     """(word, marks) behind each beginning of a story."""
     machine = need_machine(machine)
     twin = need_twin(machine, twin)
+    return stands_of(twin, need_story(machine, late, story))
+
+
+def stands_of(twin, story):
+    """(word, marks) behind each beginning, of things that were looked at; the story may be longer than 400 news."""
     word, marks = twin[0], ()
     stands = [(word, marks)]
-    for moment, kind in need_story(machine, late, story):
+    for moment, kind in story:
         word, marks = twin_step(twin, word, marks, moment, kind)
         stands.append((word, marks))
     return tuple(stands)
@@ -91,9 +96,15 @@ def twin_readings(machine, twin, late, story):
 
 def first_wrong(machine, twin, late, story):
     """How many news the first beginning has behind which the table shows what is not right, or None."""
-    shown = twin_readings(machine, twin, late, story)
-    right = story_readings(machine, late, story)
-    for many, reading in enumerate(shown):
-        if reading != right[many]:
+    machine = need_machine(machine)
+    twin = need_twin(machine, twin)
+    return first_wrong_of(machine, twin, need_story(machine, late, story))
+
+
+def first_wrong_of(machine, twin, story):
+    """The same, of things that were looked at; the story may be longer than 400 news."""
+    stands = stands_of(twin, story)
+    for many, state in enumerate(states_along(machine[0], story)):
+        if twin[2][stands[many][0]] != machine[1][state]:
             return many
     return None

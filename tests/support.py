@@ -14,6 +14,13 @@ EIGHT = (
     (99, 0, 0, 0, 5, 5, 5, 5),
 )
 
+# Machines, with late kinds, of which not each news is needed round a ring: (machine, late, growth).
+PARTLY = (
+    ((((2, 1, 1), (1, 0, 2), (2, 2, 2)), (2, 0, 1)), (2,), (1, 2)),
+    ((((1, 1, 1, 1), (3, 1, 1, 2), (3, 0, 3, 3)), (2, 3, 0, 3)), (0,), (1, 3)),
+    ((((1, 1, 2, 2), (3, 2, 1, 0), (0, 2, 3, 3)), (0, 1, 2, 3)), (0,), (2, 3)),
+)
+
 # Values of which none is a number, a row of numbers, or anything else that is wanted.
 ODD_VALUES = (
     None, True, False, -1, 10 ** 9, "", "word", "0", (), [], (None,), [[]], ((),), (True,), (0, True), ((0, 0), True),

@@ -11,6 +11,8 @@ from tests.test_tables import CLOSING
 # no wrong one; PAPER says that lists may not stand for its tuples.
 PAPER = "paper"
 LEVEL = (((1, 1), (0, 0)), (0, 1))
+SWAP = ("swap", (0, 1, 0), (), 0, 1, ((0, 0),))
+TESTS = ((1,), ((0, ("needed", ((),), 0, ((),), ())),))
 
 
 def machine(value=VALVE, name="machine"):
@@ -84,6 +86,18 @@ def row(name="row", value=(((0, 1), (1, 0)), (1,))):
 
 def told_row(name="told_row", value=((((0, 1), (1, 0)), (1,)), (4,))):
     return (name, value, ((((0, 1), (1, 0)), (1,)), (4, 5)), errors.InvalidItems, -1)
+
+
+def marks(value=0):
+    return ("marks", value, 13, errors.InvalidMarks, -1)
+
+
+def question(value=("ahead", (0, 1, 0), (1, 0, 1))):
+    return ("question", value, ("ahead", (0, 1, 0), (1, 0, 2)), errors.InvalidAsked, 2)
+
+
+def walk(value):
+    return ("paper", value, ("swap",), errors.InvalidPaper, -1)
 
 
 def is_paper(argument):
@@ -225,6 +239,43 @@ CALLS = {
             given(((3, (((0, 1), (1, 0)), (1,)), (4,)),), ((3, (), ()),), errors.InvalidLetter, 0),
         ],
     },
+    "walkers": {
+        "walkers_paper": [no_least(), late()],
+        "walkers_hold": [no_least(), late(), anything(SWAP)],
+        "court_of_walk": [no_least(), late(), walk(SWAP)],
+        "walk_of_court": [no_least(), late(), walk(("amid", ((0, 0), (1, 1), (0, 0))))],
+        "rising_word": [no_least(), late(), walk(SWAP), size("many", 3)],
+    },
+    "ways": {
+        "marks_by": [machine(), late(), size("many", 3)],
+        "widest_word": [machine(), late(), size("many", 3)],
+        "marks_needed": [machine(), late()],
+        "growth": [machine(), late()],
+        "marks_paper": [machine(), late()],
+        "marks_hold": [machine(), late((0,)), anything(("level", 1, ((1, 0),), (1,)))],
+    },
+    "counts": {
+        "counts_paper": [machine(), late()],
+        "counts_hold": [machine(), late((0,)), anything(((0, 1), 1, 0))],
+        "marks_for": [machine(), late(), size("many", 10 ** 9)],
+    },
+    "deceivers": {
+        "deceiving_word": [machine(), late(), marks()],
+        "deceiving_tests": [machine(), late(), marks(2)],
+        "tests_hold": [machine(), late((0,)), marks(), anything(TESTS)],
+        "test_stories": [machine(), late((0,)), marks(), held_paper(TESTS)],
+        "deceive": [machine(), late(), twin()],
+        "test_bound": [machine(), late()],
+        "judge_twin": [machine(), late(), twin()],
+        "judged_holds": [machine(), late(), twin(), anything(("wrong", ((3, 0), (4, 0), (5, 0))))],
+    },
+    "ends": {
+        "end_places": [no_least(), word()],
+        "end_word": [no_least(), word()],
+        "ends_apart": [no_least()],
+        "question_answer": [size("kinds", 2), question(), word()],
+        "question_machine": [size("kinds", 2), question(("ahead", (0, 0, 0), (1, 0, 1)))],
+    },
 }
 
 
@@ -275,7 +326,7 @@ class CallsTest(Case):
             for at, (_, _, wrong, error, _) in enumerate(arguments):
                 if error is None:
                     continue
-                values = [as_lists(argument[1]) for argument in arguments]
+                values = [argument[1] if is_paper(argument) else as_lists(argument[1]) for argument in arguments]
                 values[at] = as_lists(wrong)
                 kept = copy.deepcopy(values)
                 with self.assertRaises(error):

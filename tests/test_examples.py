@@ -41,6 +41,20 @@ STAGE_THREE = """
     ((2,), 'needed', 2)
 """
 
+# Of the examples in chapters 1, 5 and 11, what needs these modules alone.
+STAGE_FOUR = """
+    >>> from forgetwhen.ways import growth, marks_by, marks_needed
+    >>> valve = (((1, 0), (0, 0)), (0, 1))
+    >>> marks_needed(valve, (0,)), marks_needed(valve, (0, 1))
+    (1, None)
+    >>> toggled = (((1, 0), (0, 0)), (0, 1))
+    >>> marks_needed(toggled, (0,)), marks_by(toggled, (0,), 3), marks_needed(toggled, (0, 1)), growth(toggled, (0, 1))
+    (1, (0, 1, 1, 1), None, (1, 1))
+    >>> from forgetwhen.counts import counts_paper, marks_for
+    >>> marks_for((((1, 0), (0, 0)), (0, 1)), (0, 1), 10 ** 18)
+    1000000000000000000
+"""
+
 
 class ExamplesTest(unittest.TestCase):
     def holds(self, text, name):
@@ -54,6 +68,7 @@ class ExamplesTest(unittest.TestCase):
         self.holds(STAGE_ONE, "stage one")
         self.holds(STAGE_TWO, "stage two")
         self.holds(STAGE_THREE, "stage three")
+        self.holds(STAGE_FOUR, "stage four")
 
     def test_readme(self):
         self.holds((pathlib.Path(__file__).parent.parent / "README.md").read_text(), "README.md")

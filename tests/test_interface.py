@@ -70,6 +70,27 @@ FUNCTIONS = {
         "own_row": "machine news", "join_rows": "machine one other", "whole_reading": "machine told_row",
         "parting_rooms": "machine word place", "need_letter": "machine many value",
     },
+    "walkers": {
+        "walkers_paper": "machine late", "walkers_hold": "machine late value", "court_of_walk": "machine late paper",
+        "walk_of_court": "machine late paper", "rising_word": "machine late paper many",
+    },
+    "ways": {
+        "marks_by": "machine late many", "widest_word": "machine late many", "marks_needed": "machine late",
+        "growth": "machine late", "marks_paper": "machine late", "marks_hold": "machine late value",
+    },
+    "counts": {
+        "counts_paper": "machine late", "counts_hold": "machine late value", "marks_for": "machine late many",
+    },
+    "deceivers": {
+        "deceiving_word": "machine late marks", "deceiving_tests": "machine late marks",
+        "tests_hold": "machine late marks value", "test_stories": "machine late marks value",
+        "deceive": "machine late twin", "test_bound": "machine late", "judge_twin": "machine late twin",
+        "judged_holds": "machine late twin value",
+    },
+    "ends": {
+        "end_places": "machine word", "end_word": "machine word", "ends_apart": "machine",
+        "question_answer": "kinds question word", "question_machine": "kinds question",
+    },
 }
 
 # Each class with its parameters, and its methods with theirs.

@@ -17,9 +17,9 @@ NODES = (
     ast.Continue, ast.Delete, ast.BoolOp, ast.BinOp, ast.UnaryOp, ast.Lambda, ast.IfExp, ast.Dict, ast.ListComp,
     ast.DictComp, ast.SetComp, ast.GeneratorExp, ast.comprehension, ast.Compare, ast.Call, ast.keyword, ast.Attribute,
     ast.Subscript, ast.Starred, ast.Name, ast.List, ast.Tuple, ast.Slice, ast.JoinedStr, ast.FormattedValue,
-    ast.expr_context, ast.boolop, ast.operator, ast.unaryop, ast.cmpop,
+    ast.Try, ast.ExceptHandler, ast.expr_context, ast.boolop, ast.operator, ast.unaryop, ast.cmpop,
 )
-LIBRARY = {"heapq": {"heappush", "heappop", "heapify"}}
+LIBRARY = {"heapq": {"heappush", "heappop", "heapify"}, "math": {"gcd", "lcm"}}
 # Whoever runs an example binds `_` there, too.
 PYTHONS_OWN = set(dir(builtins)) - {"_"}
 BARRED_NODES = (ast.Div, ast.MatMult, ast.Pow)
@@ -266,6 +266,18 @@ class LanguageTest(unittest.TestCase):
         def look(path):
             for node in ast.walk(parsed(path)):
                 if isinstance(node, ast.Raise) and not isinstance(node.exc, ast.Call):
+                    yield node
+
+        self.in_each(look)
+
+    def test_only_own_errors_are_caught(self):
+        errors = {node.name for node in parsed(PACKAGE / "errors.py").body if isinstance(node, ast.ClassDef)}
+
+        def look(path):
+            for node in ast.walk(parsed(path)):
+                if isinstance(node, ast.Try) and (node.finalbody or node.orelse):
+                    yield node
+                if isinstance(node, ast.ExceptHandler) and getattr(node.type, "id", None) not in errors:
                     yield node
 
         self.in_each(look)
