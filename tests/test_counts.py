@@ -1,8 +1,9 @@
 """Promises [51] and [52]."""
 
-from forgetwhen.counts import counts_hold, counts_paper, marks_for
+from forgetwhen.counts import Rises, counts_hold, counts_paper, marks_for
 from forgetwhen.errors import InvalidLate, InvalidMachine, InvalidSize
 from forgetwhen.late import steep_machine
+from forgetwhen.roads import Roads
 from forgetwhen.ways import growth, marks_needed
 from forgetwhen.web import web
 from tests.support import (
@@ -54,6 +55,76 @@ def has_form(value):
     if not all(isinstance(number, int) and not isinstance(number, bool) for number in (*counts, turn, rise)):
         return False
     return 1 <= turn <= len(counts)
+
+
+def plain_roads(steps, ends):
+    """Roads that are no web's, from node 0 on: steps (node, node behind, 1 if it is needed)."""
+    roads = Roads.__new__(Roads)
+    roads.steps = [(begin, end, 0, need) for begin, end, need in steps]
+    roads.many = 1 + max(max(begin, end) for begin, end, _ in steps)
+    roads.begins, roads.ends = (0,), ends
+    return roads
+
+
+def head_start(length):
+    """A chain of needed steps to a ring of three with one needed step; and, from 0 on, a ring of two with one.
+
+    (steps, the ring of two, the ring of three)
+    """
+    steps = [(at, at + 1, 1) for at in range(length)]
+    slow = (length, length + 1, length + 2)
+    steps += [(length, length + 1, 1), (length + 1, length + 2, 0), (length + 2, length, 0)]
+    fast = (length + 3, length + 4)
+    steps += [(0, fast[0], 0), (fast[0], fast[1], 1), (fast[1], fast[0], 0)]
+    return steps, fast, slow
+
+
+class RisesTest(Case):
+    """Roads on which it takes long until the steepest ring is ahead."""
+
+    def looks_right(self, steps, ends):
+        roads = plain_roads(steps, ends)
+        rises = Rises(roads)
+        counts = roads.most_by(400)
+        for many in range(401):
+            self.assertEqual(rises.most_of(many), counts[many], many)
+        return rises
+
+    def test_two_rings(self):
+        for length in (5, 20, 33):
+            steps, fast, slow = head_start(length)
+            rises = self.looks_right(steps, fast + slow)
+            self.assertEqual(rises.rise * 2, rises.turn)
+            self.assertGreater(rises.first, 3 * length)
+
+    def test_a_ring_behind_another(self):
+        """What comes from the steeper ring is ahead, at the other one, long after."""
+        for length in (5, 20, 33):
+            steps, fast, slow = head_start(length)
+            for end in slow:
+                rises = self.looks_right([*steps, (fast[0], slow[0], 0)], (end,))
+                self.assertEqual(rises.rise * 2, rises.turn)
+                self.assertGreater(rises.first, 3 * length)
+
+    def test_rings_of_one_step(self):
+        """Behind many free steps one where each is needed, which leads to a node that stood long ahead."""
+        for length in (10, 25):
+            steps = [(at, at + 1, 1) for at in range(length)] + [(length, length, 0)]
+            free = [0, *range(length + 1, 2 * length + 1)]
+            steps += [(one, other, 0) for one, other in zip(free, free[1:])]
+            steps += [(free[-1], free[-1], 1), (free[-1], length, 0)]
+            rises = self.looks_right(steps, (length,))
+            self.is_just((rises.turn, rises.rise), (1, 1))
+
+    def test_rings_of_many_lengths(self):
+        steps = [(0, 1, 0)]
+        ends = [0, 1]
+        for length in (2, 3, 5):
+            first = len(steps) + 1
+            ring = list(range(first, first + length))
+            steps += [(1, first, 0), *zip(ring, ring[1:] + ring[:1], [1] + [0] * (length - 1))]
+            ends += ring
+        self.looks_right(steps, tuple(ends))
 
 
 class CountsTest(Case):

@@ -177,6 +177,11 @@ class TestsTest(Case):
                 tests = deceiving_tests(machine, late, marks)
                 for story in test_stories(machine, late, marks, tests):
                     self.assertLessEqual(len(story), a * (marks + 1) + b)
+                # However long the papers are that may be made.
+                states, length = len(machine[1]), len(tests[0])
+                for place in needed_news(machine, late, tests[0]):
+                    put = (place + 1) * (states - 1) + (length - place) * (states * (states - 1) // 2)
+                    self.assertLessEqual(length + put + 1 + states, a * (marks + 1) + b)
         self.assertGreater(told, 8)
 
     def test_changed_tests(self):
@@ -215,6 +220,11 @@ class TestsTest(Case):
         self.assertEqual(len(test_stories(VALVE, (0,), 0, (word[1:], ((398, ("needed", ((),) * 399, 0, ((),), ())),)))), 2)
         two = ((0, 1, 0), ((0, need_paper(VALVE, (0, 1), (0, 1, 0), 0)), (2, need_paper(VALVE, (0, 1), (0, 1, 0), 2))))
         self.assertIs(tests_hold(VALVE, (0, 1), 1, two), two[1][0][1][0] == "needed")
+        one = (0, need_paper(VALVE, (0, 1), (0, 0), 0))
+        other = (1, need_paper(VALVE, (0, 1), (0, 0), 1))
+        self.assertIs(tests_hold(VALVE, (0, 1), 1, ((0, 0), (one, other))), True)
+        for papers in ((one, one), (other, other), (other, one), (one, (2, other[1]))):
+            self.assertIs(tests_hold(VALVE, (0, 1), 1, ((0, 0), papers)), False)
         free = need_paper(VALVE, (0,), (0,), 0)
         self.assertEqual(free[0], "free")
         self.assertIs(tests_hold(VALVE, (0,), 0, ((0,), ((0, free),))), False)
@@ -393,7 +403,7 @@ class JudgeTest(Case):
                 word, row = paper[1][at]
                 for wrong in (
                     [word, row], (word, as_lists(row)), (word, (row[0], list(row[1]))), (word, row, ()), (True, row),
-                    (word, (as_lists(row[0]), row[1])), (word, (tuple(list(one) for one in row[0]), row[1])),
+                    (word, (list(row[0]), row[1])), (word, (as_lists(row[0]), row[1])), (word, (tuple(list(one) for one in row[0]), row[1])),
                     (len(twin[1]), row), (-1, row), (None, row), (word, ()), (word, (row[0][1:], row[1])), (word,),
                     ((word + 1) % 2, row) if len(twin[2]) > 1 else None,
                 ):
@@ -403,6 +413,19 @@ class JudgeTest(Case):
             self.assertIs(judged_holds(machine, late, twin, ("right", ())), False)
             for value in (*ODD_VALUES, ("wrong", ()), ("right",), (*paper, ()), ["right", paper[1]]):
                 self.assertIs(judged_holds(machine, late, twin, value), False)
+
+    def test_papers_that_fail_in_one_thing(self):
+        """A wrong reading, rules that are not told, a needed mark that is dropped."""
+        row = first_row(ONE)
+        for machine, told, wanted in (
+            (ONE, (0, (((((0, ()),),),),), (7,)), True), (ONE, (0, (((((0, ()),),),),), (8,)), False),
+            (ONE, (0, (((),),), (7,)), False),
+        ):
+            self.assertIs(judged_holds(machine, (0,), told, ("right", ((0, row),))), wanted)
+        twin = (0, (((((1, ()), (0, ())),),), ((((0, ()), (0, ())),),)), (0, 1))
+        stands = ((0, first_row(VALVE)), (1, (((1, 0),), ())))
+        self.assertIs(judged_holds(VALVE, (), twin, ("right", stands)), True)
+        self.assertIs(judged_holds(VALVE, (0,), twin, ("right", stands)), False)
 
     def test_right_papers_by_other_rows(self):
         """Any row that tells the same will do; one that tells something else will not."""

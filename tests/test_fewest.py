@@ -1,5 +1,8 @@
 """Promise [18]."""
 
+import unittest.mock
+
+from forgetwhen import fewest
 from forgetwhen.errors import InvalidLate, InvalidMachine, InvalidSize
 from forgetwhen.fewest import fewest_words, least_twin, met_rows
 from forgetwhen.late import steep_machine
@@ -144,6 +147,19 @@ class FewestTest(Case):
         self.assertEqual((fewest_words(MANY_WORDS, (0,)), len(met_rows(MANY_WORDS, (0,)))), (120, 128))
         self.refuses(InvalidSize, "words", least_twin, MANY_WORDS, (0,))
         self.is_just(twin_sizes(steep_machine(4), least_twin(steep_machine(4), (0, 1)))[1], 4)
+
+    def test_just_at_the_bounds(self):
+        """As many as may be are no error, one more is."""
+        self.is_just((fewest.MOST_MARKS, fewest.MOST_ROWS, fewest.MOST_WORDS), (6, 420, 60))
+        with unittest.mock.patch.multiple(fewest, MOST_ROWS=128, MOST_WORDS=120):
+            self.assertEqual(len(met_rows(MANY_WORDS, (0,))), 128)
+            self.assertEqual(len(least_twin(MANY_WORDS, (0,))[2]), 120)
+        with unittest.mock.patch.multiple(fewest, MOST_ROWS=127):
+            self.refuses(InvalidSize, "rows", met_rows, MANY_WORDS, (0,))
+        with unittest.mock.patch.multiple(fewest, MOST_WORDS=119):
+            self.refuses(InvalidSize, "words", least_twin, MANY_WORDS, (0,))
+        # Six marks are let.
+        self.is_just(twin_sizes(steep_machine(5), least_twin(steep_machine(5), (0, 1)))[1], 6)
 
     def test_wrong_arguments(self):
         for call in (met_rows, fewest_words, least_twin):

@@ -155,6 +155,15 @@ class PartingRoomsTest(Case):
             ends.append(story_readings(machine, late, (*news, *row))[-1])
         self.assertNotEqual(*ends)
 
+    def test_long_tails(self):
+        """Turns of a ring, told apart only by further ones."""
+        for word in ((0,), (1, 0), (1, 0, 0), (0, 1, 0)):
+            for place in range(len(word)):
+                found = parting_rooms(RING, word, place)
+                self.assertIs(found is None, place not in needed_news(RING, (0, 1), word))
+                if found is not None:
+                    self.parts(RING, word, place, found)
+
     def test_rooms_hear_them(self):
         """Who has not kept the mark sees both rows alike."""
         news, one, other = parting_rooms(VALVE, (0, 1, 0), 2)

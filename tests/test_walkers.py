@@ -15,6 +15,14 @@ from tests.test_court import MAPS_60, MAPS_61
 
 SWAP = ("swap", (0, 1, 0), (), 0, 1, ((0, 0),))
 FIVE = (((1, 2, 3, 4, 0), (0, 0, 0, 0, 0)), (0, 1, 2, 3, 4))
+# Machines, with late kinds, in which a turn is idempotent only several times.
+SEVERAL = (
+    ((((1, 2, 0, 3), (1, 3, 0, 1), (0, 3, 0, 0)), (0, 3, 2, 1)), (0,)),
+    ((((1, 0, 3, 1), (1, 3, 2, 1), (2, 3, 1, 0)), (0, 2, 1, 3)), (2,)),
+    ((((1, 3, 0, 2), (2, 2, 3, 0), (1, 2, 3, 2)), (0, 1, 3, 2)), (2,)),
+    ((((1, 1, 0, 2), (2, 0, 3, 3)), (0, 1, 2, 3)), (1,)),
+    ((((1, 2, 2, 0), (0, 3, 2, 3), (0, 0, 0, 0)), (0, 2, 3, 1)), (1,)),
+)
 
 
 def least_cases(seed, count=40, states=3, kinds=2):
@@ -79,6 +87,11 @@ def judged(machine, late, value):
         ends += [run(machine, q, [*first, kind, put, *last]), run(machine, q, [*first, put, kind, *last])]
         return r != t and ends == [q, r, t, r, t]
     return False
+
+
+def by_map(machine, *words):
+    """The map of several words, one behind another."""
+    return [run(machine, state, [kind for word in words for kind in word]) for state in range(len(machine[1]))]
 
 
 def letters_in(paper):
@@ -192,6 +205,20 @@ class CourtTest(Case):
                 again = court_of_walk(machine, late, walk)
                 self.assertIs(court_holds(machine, late, again), True)
         self.assertGreater(min(told.values()), 5)
+
+    def test_turns_that_are_idempotent_only_several_times(self):
+        for machine, late in SEVERAL:
+            paper = walkers_paper(machine, late)
+            name, stirred = court_of_walk(machine, late, paper)
+            self.assertTrue(is_stirred(machine, late, stirred))
+            words = [[kind for kind, put in stirred if put in puts] for puts in ((0,), (1,), (0, 1))]
+            f, s, r = words
+            self.is_just(by_map(machine, f, f), by_map(machine, f))
+            if name == "amid":
+                self.assertNotEqual(by_map(machine, f, r, f), by_map(machine, f, s, f))
+            else:
+                self.is_just(by_map(machine, r, r), by_map(machine, r))
+                self.assertNotEqual(by_map(machine, r, f, r), by_map(machine, r))
 
     def test_stirred_words_of_all_forms(self):
         """Papers of the court that are not the shortest: with a turn more, repeated, and found by chance."""

@@ -148,6 +148,8 @@ class NumbersTest(Case):
         self.is_just(marks_by(VALVE, (0, 1), 60), tuple(range(61)))
         self.is_just(widest_word(VALVE, (0, 1), 60), (0,) * 60)
         self.is_just([marks_needed(steep_machine(states), (0, 1)) for states in range(1, 6)], [0, 1, 2, 4, 6])
+        # At first no news can be needed, however many more come.
+        self.is_just(marks_by((((0, 1, 2, 2), (1, 2, 3, 2)), (0, 2, 1, 3)), (0,), 8), (0, 0, 0, 1, 2, 3, 4, 5, 6))
 
     def test_by_force(self):
         """Among all words of a length the most needed news, and the least word that has them."""
@@ -277,6 +279,8 @@ class PapersTest(Case):
         self.assertIs(marks_hold(VALVE, (0,), ("level", 1, ((True, 0),), (1,))), False)
         self.assertIs(marks_hold(VALVE, (0, 1), ("grows", 1, 1, ((0, 0),), (1, 0), (0, 0, 0), (0,))), True)
         self.assertIs(marks_hold(VALVE, (0, 1), ("grows", 1, 1, ((0, 0),), (), (0,) * 800, ())), True)
+        # A ring without needed news tells nothing.
+        self.assertIs(marks_hold(VALVE, (0,), ("grows", 0, 1, ((1, 0),), (), (1,), (1,))), False)
         # A common divisor, an empty ring, another measure, a ring that does not stand.
         self.assertIs(marks_hold(VALVE, (0, 1), ("grows", 2, 2, ((0, 0),), (), (0,), ())), False)
         self.assertIs(marks_hold(VALVE, (0, 1), ("grows", 1, 1, ((0, 0),), (), (), ())), False)
