@@ -23,14 +23,21 @@ def walkers_paper(machine, late):
         raise InvalidSize("states")
     states = tuple(range(many))
     for q in states:
-        for z in states:
-            for w in states:
-                paper = turn_left_alone(machine, late, (q, z, w)) if w != q else None
-                if paper is None and z != w:
-                    paper = swap(machine, late, (q, z, w))
+        for one in states:
+            for other in states:
+                paper = paper_at(machine, late, (q, one, other))
                 if paper is not None:
                     return paper
     return None
+
+
+def paper_at(machine, late, states):
+    """A paper of walkers from three states, or None."""
+    q, one, other = states
+    paper = turn_left_alone(machine, late, states) if other != q else None
+    if paper is None and one != other:
+        paper = swap(machine, late, states)
+    return paper
 
 
 def walk(machine, late, begins, turning, found):
