@@ -2,8 +2,8 @@
 
 from forgetwhen.checks import is_integer, is_tuple_of, is_within
 from forgetwhen.errors import InvalidSize
-from forgetwhen.roads import NO_WAY, Roads
-from forgetwhen.web import need_gaps
+from forgetwhen.roads import NO_WAY
+from forgetwhen.web import need_gaps, need_roads, roads_of
 
 MOST_NUMBER = 1000000000000000000
 
@@ -86,7 +86,7 @@ class Rises:
 
 
 def need_rises(machine, late):
-    return Rises(Roads(need_gaps(machine, late)))
+    return Rises(need_roads(machine, late))
 
 
 def counts_paper(machine, late):
@@ -118,4 +118,4 @@ def marks_for(machine, late, many):
     gaps = need_gaps(machine, late)
     if not is_within(many, 0, MOST_NUMBER):
         raise InvalidSize("many")
-    return Rises(Roads(gaps)).most_of(many)
+    return Rises(roads_of(gaps)).most_of(many)

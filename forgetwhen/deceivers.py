@@ -5,10 +5,10 @@ from forgetwhen.errors import InvalidMarks, InvalidPaper
 from forgetwhen.judging import judged, right_holds, wrong_holds
 from forgetwhen.machines import MOST_LETTERS, need_late, need_machine
 from forgetwhen.needed import needed_holds, needed_of, paper_of, stories_of, two_stories
-from forgetwhen.roads import Roads
+from forgetwhen.roads import most_marks, words_of_ring
 from forgetwhen.tables import first_wrong_of, need_twin, stands_of
-from forgetwhen.web import need_gaps
-from forgetwhen.ways import is_word, most_marks, need_roads, words_of_ring
+from forgetwhen.web import need_roads
+from forgetwhen.ways import is_word
 
 MOST_ASKED = 12
 
@@ -28,7 +28,7 @@ def need_deceived(machine, late, marks):
 def deceiving_word(machine, late, marks):
     """The shortest, then least word with more needed news than so many marks, or None."""
     machine, late, marks = need_deceived(machine, late, marks)
-    return word_beyond(Roads(need_gaps(machine, late)), marks)
+    return word_beyond(need_roads(machine, late), marks)
 
 
 def word_beyond(roads, marks):

@@ -1,35 +1,45 @@
-"""The steps of a web as roads between numbered nodes: the most needed steps of ways, heights, and rings."""
+"""Roads between numbered nodes, some of them needed: the most needed steps of ways, heights, and rings."""
 
 from math import gcd
 
-from forgetwhen.search import word_to
-from forgetwhen.web import all_relations, all_sets, web_of
+from forgetwhen.search import search, word_to
 
 # What stands for a number of needed steps where there is no way.
 NO_WAY = -1
 
 
-class Roads:
-    """The nodes and steps of a web. Node i * (number of relations) + j stands for (i, j).
+def side_of(begin, kinds, behind):
+    """(nodes, steps, words): nodes as first come to, for each and each kind the one behind, the words to them."""
+    nodes, came, _ = search((begin,), kinds, behind)
+    numbers = {node: number for number, node in enumerate(nodes)}
+    steps = tuple(tuple(numbers[behind(node, kind)] for kind in kinds) for node in nodes)
+    return nodes, steps, tuple(word_to(came, number) for number in range(len(nodes)))
 
-    A way of a word goes from a begin (set 0) to an end (relation 0), and each way between these is one.
-    steps has (node, node behind, kind, 1 if it is needed, else 0).
+
+def turned(words):
+    """The words from their last letter to the first one."""
+    return tuple(tuple(reversed(word)) for word in words)
+
+
+class Roads:
+    """Two sides of what stands around letters: nodes of what is ahead (i) and of what is behind (j).
+
+    after[i][k] is the number of the node behind kind k, before[j][k] that of the one ahead of it, needed[i][j][k]
+    is 1 if the kind is needed between i and j. Node i * (how many j) + j stands for (i, j).
+    A way of a word goes from a begin (i is 0) to an end (j is 0), and each way between these is one.
+    steps has (node, node behind, kind, 1 if it is needed, else 0). words has for both sides how they are come to.
     """
 
-    def __init__(self, gaps):
-        sets, relations, after, before, needed = web_of(gaps)
-        self.kinds = tuple(range(len(gaps.maps)))
-        self.wide = len(relations)
-        self.many = len(sets) * self.wide
+    def __init__(self, after, before, needed, words):
+        self.kinds = tuple(range(len(after[0])))
+        self.wide = len(before)
+        self.many = len(after) * self.wide
         self.begins = tuple(range(self.wide))
         self.ends = tuple(range(0, self.many, self.wide))
-        _, set_came = all_sets(gaps)
-        _, relation_came = all_relations(gaps)
-        self.words_ahead = [word_to(set_came, number) for number in range(len(sets))]
-        self.words_behind = [tuple(reversed(word_to(relation_came, number))) for number in range(len(relations))]
+        self.words_ahead, self.words_behind = words
         self.steps = []
-        for i in range(len(sets)):
-            for j in range(len(relations)):
+        for i in range(len(after)):
+            for j in range(self.wide):
                 for kind in self.kinds:
                     begin = i * self.wide + before[j][kind]
                     self.steps.append((begin, after[i][kind] * self.wide + j, kind, needed[i][j][kind]))
@@ -166,3 +176,16 @@ def ring_through(came, node):
     while steps[-1][0] != node:
         steps.append(came[steps[-1][0]])
     return list(reversed(steps))
+
+
+def most_marks(roads):
+    """The most needed steps of any way, or None."""
+    heights, ring = roads.heights(0, 1)
+    return None if ring is not None else max(heights)
+
+
+def words_of_ring(roads, ring):
+    """(ahead, ring, behind): words whose way goes round a ring of steps."""
+    node = ring[0][0]
+    kinds = tuple(kind for _, _, kind, _ in ring)
+    return roads.words_ahead[node // roads.wide], kinds, roads.words_behind[node % roads.wide]

@@ -7,14 +7,10 @@ from forgetwhen.errors import InvalidSize
 from forgetwhen.gaps import Gaps
 from forgetwhen.machines import need_late, need_machine
 from forgetwhen.needed import needed_of
-from forgetwhen.roads import Roads
-from forgetwhen.web import need_gaps
+from forgetwhen.roads import most_marks, words_of_ring
+from forgetwhen.web import need_gaps, need_roads, roads_of
 
 MOST_LONG = 60
-
-
-def need_roads(machine, late):
-    return Roads(need_gaps(machine, late))
 
 
 def need_many(many):
@@ -27,25 +23,19 @@ def marks_by(machine, late, many):
     """The greatest numbers of needed news in records of no news, of one, and so on."""
     gaps = need_gaps(machine, late)
     many = need_many(many)
-    return Roads(gaps).most_by(many)
+    return roads_of(gaps).most_by(many)
 
 
 def widest_word(machine, late, many):
     """The least of the words of so many letters with the most needed news."""
     gaps = need_gaps(machine, late)
     many = need_many(many)
-    return Roads(gaps).widest(many)
+    return roads_of(gaps).widest(many)
 
 
 def marks_needed(machine, late):
     """The greatest number of needed news in any record, or None."""
     return most_marks(need_roads(machine, late))
-
-
-def most_marks(roads):
-    """The most needed steps of any way, or None."""
-    heights, ring = roads.heights(0, 1)
-    return None if ring is not None else max(heights)
 
 
 def growth(machine, late):
@@ -64,13 +54,6 @@ def marks_paper(machine, late):
         return ("level", most, rows, roads.widest(roads.first_with(most)))
     ahead, round_word, behind = words_of_ring(roads, ring)
     return ("grows", p, q, rows, ahead, round_word, behind)
-
-
-def words_of_ring(roads, ring):
-    """(ahead, ring, behind): words whose way goes round a ring of steps."""
-    node = ring[0][0]
-    kinds = tuple(kind for _, _, kind, _ in ring)
-    return roads.words_ahead[node // roads.wide], kinds, roads.words_behind[node % roads.wide]
 
 
 def marks_hold(machine, late, value):
@@ -107,7 +90,7 @@ def heights_hold(roads, rows, p, q):
 def level_holds(machine, late, value):
     """Whether a tuple of four is a paper that tells how many marks are needed."""
     _, most, rows, word = value
-    roads = Roads(Gaps(machine, late))
+    roads = roads_of(Gaps(machine, late))
     if not (is_integer(most) and is_word(machine, word) and are_heights(roads, rows)):
         return False
     if not heights_hold(roads, rows, 0, 1):
@@ -125,7 +108,7 @@ def grows_holds(machine, late, value):
         return False
     if not all(is_word(machine, word) for word in words):
         return False
-    roads = Roads(Gaps(machine, late))
+    roads = roads_of(Gaps(machine, late))
     return are_heights(roads, rows) and heights_hold(roads, rows, p, q) and is_ring_of(machine, late, words, p, q)
 
 

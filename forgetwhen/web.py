@@ -2,6 +2,7 @@
 
 from forgetwhen.gaps import Gaps
 from forgetwhen.machines import need_late, need_machine, need_word
+from forgetwhen.roads import Roads, turned
 from forgetwhen.search import search, word_to
 
 
@@ -24,6 +25,10 @@ def all_relations(gaps):
     return relations, came
 
 
+def words_to(came):
+    return tuple(word_to(came, number) for number in range(len(came)))
+
+
 def forward_sets(machine, late):
     """All sets of words, as first come to from that of the empty word."""
     sets, _ = all_sets(need_gaps(machine, late))
@@ -33,7 +38,7 @@ def forward_sets(machine, late):
 def set_words(machine, late):
     """For each set the word by which it is first come to."""
     _, came = all_sets(need_gaps(machine, late))
-    return tuple(word_to(came, number) for number in range(len(came)))
+    return words_to(came)
 
 
 def backward_relations(machine, late):
@@ -45,7 +50,7 @@ def backward_relations(machine, late):
 def relation_words(machine, late):
     """For each relation the word by which it is first come to."""
     _, came = all_relations(need_gaps(machine, late))
-    return tuple(tuple(reversed(word_to(came, number))) for number in range(len(came)))
+    return turned(words_to(came))
 
 
 def web(machine, late):
@@ -67,6 +72,18 @@ def web_of(gaps):
     )
     needed = tuple(tuple(needed_row_of(gaps, states, classes) for classes in relations) for states in sets)
     return (tuple(sets), tuple(relations), after, before, needed)
+
+
+def roads_of(gaps):
+    """The steps of the web."""
+    _, _, after, before, needed = web_of(gaps)
+    _, set_came = all_sets(gaps)
+    _, relation_came = all_relations(gaps)
+    return Roads(after, before, needed, (words_to(set_came), turned(words_to(relation_came))))
+
+
+def need_roads(machine, late):
+    return roads_of(need_gaps(machine, late))
 
 
 def needed_row_of(gaps, states, classes):
