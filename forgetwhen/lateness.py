@@ -2,14 +2,12 @@
 
 from forgetwhen.checks import is_row_of, is_row_within, is_within
 from forgetwhen.errors import InvalidKind, InvalidLateness, InvalidMoment, InvalidStory
-from forgetwhen.gaps import Gaps
 from forgetwhen.machines import need_kind, need_machine, need_word, same_map
 from forgetwhen.needed import ways_of
-from forgetwhen.roads import most_marks
 from forgetwhen.rows import empty_row, row_of_kept, row_with, state_of_row
 from forgetwhen.stories import MOST_NEWS, is_news, need_moment
 from forgetwhen.told import ToldGaps, greatest_told, kinds_with_behind, most_told, relations_by_behind
-from forgetwhen.web import roads_of
+from forgetwhen.ways import marks_of
 
 MOST_LATE = 12
 
@@ -122,7 +120,7 @@ def told_marks(machine, lateness):
     lateness = need_lateness(machine, lateness)
     gaps = ToldGaps(machine, lateness)
     # There are greatest numbers exactly if there are for the kinds that may come however late.
-    if most_marks(roads_of(Gaps(machine, kinds_with_behind(lateness, gaps.beyond)))) is None:
+    if marks_of(machine, kinds_with_behind(lateness, gaps.beyond)) is None:
         return None
     rows = relations_by_behind(gaps)
     return (most_told(gaps, rows, False), most_told(gaps, rows, True))

@@ -10,7 +10,7 @@ from forgetwhen.search import search, word_to
 from forgetwhen.stories import kinds_by_moments, need_moment, need_story
 from forgetwhen.twins import cut_at_gaps, is_kind_at
 from forgetwhen.ways import is_word
-from forgetwhen.web import all_sets, need_gaps, words_to
+from forgetwhen.web import need_gaps, side_of_sets
 
 
 def is_moved(one, states):
@@ -131,12 +131,10 @@ class PastTwin:
 
 def moving_roads(gaps):
     """The steps between sets; those are needed that move a state."""
-    sets, came = all_sets(gaps)
-    numbers = {states: number for number, states in enumerate(sets)}
-    after = [[numbers[gaps.states_behind(states, one)] for one in gaps.maps] for states in sets]
+    sets, after, words = side_of_sets(gaps)
     moved = [[[1 if is_moved(one, states) else 0 for one in gaps.maps]] for states in sets]
     # What is behind plays no part: there is one node for all of it.
-    return Roads(after, [[0] * len(gaps.maps)], moved, (words_to(came), ((),)))
+    return Roads(after, ((0,) * len(gaps.maps),), moved, (words, ((),)))
 
 
 def past_marks(machine, late):

@@ -35,7 +35,16 @@ def widest_word(machine, late, many):
 
 def marks_needed(machine, late):
     """The greatest number of needed news in any record, or None."""
-    return most_marks(need_roads(machine, late))
+    machine = need_machine(machine)
+    return marks_of(machine, need_late(machine, late))
+
+
+def marks_of(machine, late):
+    """The same, of things that were looked at."""
+    # Without late kinds nothing is ever needed, whatever the web is like, and it may be great then.
+    if not late:
+        return 0
+    return most_marks(roads_of(Gaps(machine, late)))
 
 
 def growth(machine, late):

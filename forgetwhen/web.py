@@ -2,8 +2,7 @@
 
 from forgetwhen.gaps import Gaps
 from forgetwhen.machines import need_late, need_machine, need_word
-from forgetwhen.roads import Roads, turned
-from forgetwhen.search import search, word_to
+from forgetwhen.roads import Roads, side_of, turned
 
 
 def need_gaps(machine, late):
@@ -11,46 +10,40 @@ def need_gaps(machine, late):
     return Gaps(machine, need_late(machine, late))
 
 
-def all_sets(gaps):
-    """(sets, came) as `search` has them, kinds put behind."""
+def side_of_sets(gaps):
+    """(sets, after, words), kinds put behind."""
     kinds = tuple(range(len(gaps.maps)))
-    sets, came, _ = search((gaps.first,), kinds, lambda states, kind: gaps.states_behind(states, gaps.maps[kind]))
-    return sets, came
+    return side_of(gaps.first, kinds, lambda states, kind: gaps.states_behind(states, gaps.maps[kind]))
 
 
-def all_relations(gaps):
-    """(relations, came) as `search` has them, kinds put ahead."""
+def side_of_relations(gaps):
+    """(relations, before, words from their last letter to the first one), kinds put ahead."""
     kinds = tuple(range(len(gaps.maps)))
-    relations, came, _ = search((gaps.last,), kinds, lambda classes, kind: gaps.classes_ahead(gaps.maps[kind], classes))
-    return relations, came
-
-
-def words_to(came):
-    return tuple(word_to(came, number) for number in range(len(came)))
+    return side_of(gaps.last, kinds, lambda classes, kind: gaps.classes_ahead(gaps.maps[kind], classes))
 
 
 def forward_sets(machine, late):
     """All sets of words, as first come to from that of the empty word."""
-    sets, _ = all_sets(need_gaps(machine, late))
+    sets, _, _ = side_of_sets(need_gaps(machine, late))
     return tuple(sets)
 
 
 def set_words(machine, late):
     """For each set the word by which it is first come to."""
-    _, came = all_sets(need_gaps(machine, late))
-    return words_to(came)
+    _, _, words = side_of_sets(need_gaps(machine, late))
+    return words
 
 
 def backward_relations(machine, late):
     """All relations of words, as first come to from that of the empty word."""
-    relations, _ = all_relations(need_gaps(machine, late))
+    relations, _, _ = side_of_relations(need_gaps(machine, late))
     return tuple(relations)
 
 
 def relation_words(machine, late):
     """For each relation the word by which it is first come to."""
-    _, came = all_relations(need_gaps(machine, late))
-    return turned(words_to(came))
+    _, _, words = side_of_relations(need_gaps(machine, late))
+    return turned(words)
 
 
 def web(machine, late):
@@ -60,30 +53,25 @@ def web(machine, late):
 
 def web_of(gaps):
     """The web, of things that were looked at."""
-    sets, _ = all_sets(gaps)
-    relations, _ = all_relations(gaps)
-    set_numbers = {states: number for number, states in enumerate(sets)}
-    relation_numbers = {classes: number for number, classes in enumerate(relations)}
-    after = tuple(
-        tuple(set_numbers[gaps.states_behind(states, one)] for one in gaps.maps) for states in sets
-    )
-    before = tuple(
-        tuple(relation_numbers[gaps.classes_ahead(one, classes)] for one in gaps.maps) for classes in relations
-    )
-    needed = tuple(tuple(needed_row_of(gaps, states, classes) for classes in relations) for states in sets)
-    return (tuple(sets), tuple(relations), after, before, needed)
+    sets, after, _ = side_of_sets(gaps)
+    relations, before, _ = side_of_relations(gaps)
+    return (tuple(sets), tuple(relations), after, before, needed_between(gaps, sets, relations))
 
 
 def roads_of(gaps):
     """The steps of the web."""
-    _, _, after, before, needed = web_of(gaps)
-    _, set_came = all_sets(gaps)
-    _, relation_came = all_relations(gaps)
-    return Roads(after, before, needed, (words_to(set_came), turned(words_to(relation_came))))
+    sets, after, ahead = side_of_sets(gaps)
+    relations, before, behind = side_of_relations(gaps)
+    return Roads(after, before, needed_between(gaps, sets, relations), (ahead, turned(behind)))
 
 
 def need_roads(machine, late):
     return roads_of(need_gaps(machine, late))
+
+
+def needed_between(gaps, sets, relations):
+    """For each set, relation and kind 1 if the step is needed, else 0."""
+    return tuple(tuple(needed_row_of(gaps, states, classes) for classes in relations) for states in sets)
 
 
 def needed_row_of(gaps, states, classes):

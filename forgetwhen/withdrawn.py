@@ -6,12 +6,11 @@ from forgetwhen.gaps import Gaps
 from forgetwhen.least import least_machine
 from forgetwhen.machines import map_of, need_kind, need_late, need_machine, then
 from forgetwhen.maps import ring_of_powers
-from forgetwhen.roads import most_marks
 from forgetwhen.rows import empty_row, needed_row, row_behind_news, state_of_row
 from forgetwhen.stories import MOMENTS, need_moment
 from forgetwhen.timeline import Timeline
 from forgetwhen.twins import is_kind_at
-from forgetwhen.web import roads_of
+from forgetwhen.ways import marks_of
 
 MOST_DEEDS = 2000
 
@@ -152,7 +151,7 @@ def withdrawn_marks(machine, late, gone):
     machine, late, gone = need_three(machine, late, gone)
     if first_without_back(machine, gone) is not None:
         return None
-    return most_marks(roads_of(Gaps(machine, both_lots(late, gone))))
+    return marks_of(machine, both_lots(late, gone))
 
 
 class WithdrawnTwin:

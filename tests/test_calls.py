@@ -100,6 +100,30 @@ def walk(value):
     return ("paper", value, ("swap",), errors.InvalidPaper, -1)
 
 
+def lateness(value=(None, 1)):
+    return ("lateness", value, (13, 13), errors.InvalidLateness, 0)
+
+
+def gone(value=(0,)):
+    return ("gone", value, (0, 0), errors.InvalidLot, 1)
+
+
+def deeds(value=((5, 0, 0), (7, 1, 0), (5, 0, 1))):
+    return ("story", value, ((5, 0, 0), (5, 0, 2)), errors.InvalidGone, 1)
+
+
+def panel(value=((((1, 0), (0, 0))), ((0, 1), (0, 0)))):
+    return ("panel", value, (((1, 0), (0, 0)), ((0, 1), (0, 100))), errors.InvalidPanel, 1)
+
+
+def two_states(value=(0, 1)):
+    return [("one", value[0], -1, errors.InvalidState, 0), ("other", value[1], True, errors.InvalidState, 1)]
+
+
+def reader(value=((((0, 0), (1, 1)),), (0, 1))):
+    return ("reader", value, ((((0, 0), (1, 2)),), (0, 1)), errors.InvalidPlant, 0)
+
+
 def is_paper(argument):
     """Whether lists may not stand for its tuples."""
     return argument[2] == PAPER or argument[3] is errors.InvalidPaper
@@ -268,6 +292,61 @@ CALLS = {
         "test_bound": [machine(), late()],
         "judge_twin": [machine(), late(), twin()],
         "judged_holds": [machine(), late(), twin(), anything(("wrong", ((3, 0), (4, 0), (5, 0))))],
+    },
+    "lateness": {
+        "need_lateness": [machine(), given((None, 3), (None, True), errors.InvalidLateness, 1)],
+        "window": [machine(), lateness()],
+        "gap_kinds": [machine(), lateness(), ("behind", 2, None, None, None)],
+        "need_told": [machine(), lateness(), given(((5, 0), (3, 1)), ((5, 0), (5, 0)), errors.InvalidStory, 1)],
+        "told_sets": [machine(), lateness(), word()],
+        "told_relations": [machine(), lateness(), word()],
+        "told_needed": [machine(), lateness(), word()],
+        "told_marks": [machine(), lateness()],
+    },
+    "past": {
+        "past_needed": [machine(), late(), word()],
+        "past_moments": [machine(), late(), story()],
+        "past_paper": [machine(), late(), word(), place(2)],
+        "past_holds": [machine(), late(), word((1,)), place(), anything(("moves", ((0,),)))],
+        "past_marks": [machine(), late()],
+        "past_marks_paper": [machine(), late()],
+        "past_marks_hold": [machine(), late(), anything(("grows", (), (1,)))],
+    },
+    "withdrawn": {
+        "need_gone": [machine(), given((1, 0), (1, 1), errors.InvalidLot, 1)],
+        "need_withdrawn": [machine(), late(), gone(), given(((5, 0, 0), (5, 0, 1)), 3, errors.InvalidGone, -1)],
+        "standing_news": [machine(), late(), gone(), deeds()],
+        "withdrawn_readings": [machine(), late(), gone(), deeds()],
+        "back_word": [machine(), ("kind", 0, 2, errors.InvalidKind, -1)],
+        "withdrawn_marks": [machine(), late((0,)), gone()],
+    },
+    "panels": {
+        "need_panel": [given((((1, 0),), ((0, 1), (5, 5))), (((1, 0),), ((0, 1), (5,))), errors.InvalidPanel, 1)],
+        "instrument": [panel(), index()],
+        "panel_machine": [panel(), ("lot", (0, 1), (1, 0), errors.InvalidLot, 1)],
+        "panel_needed": [panel(), late(), word()],
+        "panel_marks": [panel(), late()],
+        "best_lots": [panel(), late(), size("marks", 1)],
+        "pair_news": [machine(), late(), *two_states()],
+        "wild_ring": [machine(), late(), *two_states()],
+        "ring_holds": [machine(), late(), *two_states(), anything(((), (0,), ()))],
+        "wild_pairs": [machine(), late()],
+        "shown_classes": [machine(), late()],
+        "can_be_shown": [machine(), late()],
+    },
+    "plants": {
+        "kinds_apart": [
+            machine(name="one"), late(), machine(LEVEL, name="other"),
+            ("late_other", (1, 0), (2,), errors.InvalidLate, 0),
+        ],
+        "kinds_shared": [machine(name="one"), machine(RING, name="other")],
+        "relayed": [machine(name="one"), machine(RING, name="other"), ("begins", (3, 0), (3, 4), errors.InvalidState, 1)],
+        "by_words": [machine(), late(), ("words", ((0, 1), ()), ((0,), (2,)), errors.InvalidLot, 1)],
+        "need_reader": [given(((((0, 0), (1, 1)),), (0, 1)), ((), ()), errors.InvalidPlant, -1)],
+        "read_by": [machine(name="plant"), late(), reader()],
+        "setters": [size("values", 3)],
+        "places_read": [reader(), word((0, 0))],
+        "reader_places": [reader()],
     },
     "ends": {
         "end_places": [no_least(), word()],

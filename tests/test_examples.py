@@ -55,6 +55,28 @@ STAGE_FOUR = """
     1000000000000000000
 """
 
+STAGE_FIVE = """
+    >>> from forgetwhen.lateness import told_marks, told_needed
+    >>> from forgetwhen.past import past_marks, past_needed
+    >>> latch = (((1, 1), (0, 1)), (0, 1))
+    >>> toggled = (((1, 0), (0, 0)), (0, 1))
+    >>> told_needed(toggled, (1, 0), (1, 1)), told_marks(toggled, (1, 0))
+    ((1,), (1, 1))
+    >>> past_needed(latch, (0, 1), (0, 1, 0)), past_marks(latch, (0, 1)), past_marks(toggled, (0,))
+    ((0,), 1, None)
+    >>> from forgetwhen.withdrawn import withdrawn_marks
+    >>> toggled = (((1, 0), (0, 0)), (0, 1))
+    >>> withdrawn_marks(toggled, (), (0,)), withdrawn_marks(toggled, (0,), (1,))
+    (1, None)
+    >>> from forgetwhen.panels import panel_marks, shown_classes
+    >>> from forgetwhen.plants import reader_places
+    >>> turned = ((1, 0), (0, 0))
+    >>> panel_marks((turned, ((0, 1), (0, 0))), (0,)), shown_classes((turned, (0, 1)), (0, 1))
+    ((((), 0), ((0,), 1), ((0, 1), 1), ((1,), 0)), (0, 0))
+    >>> reader_places(((((0, 0), (1, 1)),), (0, 1)))
+    1
+"""
+
 
 class ExamplesTest(unittest.TestCase):
     def holds(self, text, name):
@@ -69,6 +91,7 @@ class ExamplesTest(unittest.TestCase):
         self.holds(STAGE_TWO, "stage two")
         self.holds(STAGE_THREE, "stage three")
         self.holds(STAGE_FOUR, "stage four")
+        self.holds(STAGE_FIVE, "stage five")
 
     def test_readme(self):
         self.holds((pathlib.Path(__file__).parent.parent / "README.md").read_text(), "README.md")

@@ -91,6 +91,34 @@ FUNCTIONS = {
         "end_places": "machine word", "end_word": "machine word", "ends_apart": "machine",
         "question_answer": "kinds question word", "question_machine": "kinds question",
     },
+    "lateness": {
+        "need_lateness": "machine value", "window": "machine lateness", "gap_kinds": "machine lateness behind",
+        "need_told": "machine lateness value", "told_sets": "machine lateness word",
+        "told_relations": "machine lateness word", "told_needed": "machine lateness word",
+        "told_marks": "machine lateness",
+    },
+    "past": {
+        "past_needed": "machine late word", "past_moments": "machine late story",
+        "past_paper": "machine late word place", "past_holds": "machine late word place value",
+        "past_marks": "machine late", "past_marks_paper": "machine late", "past_marks_hold": "machine late value",
+    },
+    "withdrawn": {
+        "need_gone": "machine value", "need_withdrawn": "machine late gone value",
+        "standing_news": "machine late gone story", "withdrawn_readings": "machine late gone story",
+        "back_word": "machine kind", "withdrawn_marks": "machine late gone",
+    },
+    "panels": {
+        "need_panel": "value", "instrument": "panel number", "panel_machine": "panel lot",
+        "panel_needed": "panel late word", "panel_marks": "panel late", "best_lots": "panel late marks",
+        "pair_news": "machine late one other", "wild_ring": "machine late one other",
+        "ring_holds": "machine late one other value", "wild_pairs": "machine late", "shown_classes": "machine late",
+        "can_be_shown": "machine late",
+    },
+    "plants": {
+        "kinds_apart": "one late other late_other", "kinds_shared": "one other", "relayed": "one other begins",
+        "by_words": "machine late words", "need_reader": "value", "read_by": "plant late reader",
+        "setters": "values", "places_read": "reader word", "reader_places": "reader",
+    },
 }
 
 # Each class with its parameters, and its methods with theirs.
@@ -106,6 +134,15 @@ CLASSES = {
         "Rooms": ("machine many", {
             "hear": "room moment kind", "letter": "room", "take": "room letter", "known": "room",
             "joined_row": "room", "shown": "room",
+        }),
+    },
+    "lateness": {"WindowTwin": ("machine lateness", {"hear": "moment kind", "marks": "", "reading": ""})},
+    "past": {
+        "PastTwin": ("machine late", {"hear": "moment kind", "marks": "", "kept_kinds": "", "state_then": "moment"}),
+    },
+    "withdrawn": {
+        "WithdrawnTwin": ("machine late gone", {
+            "hear": "moment kind", "withdraw": "moment kind", "marks": "", "row": "", "reading": "",
         }),
     },
 }
