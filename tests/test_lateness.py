@@ -3,13 +3,14 @@
 import itertools
 
 from forgetwhen.errors import InvalidKind, InvalidLateness, InvalidMoment, InvalidStory
+from forgetwhen.late import steep_machine
 from forgetwhen.lateness import (
     WindowTwin, gap_kinds, need_lateness, need_told, told_marks, told_needed, told_relations, told_sets, window,
 )
 from forgetwhen.needed import needed_news, word_relations, word_sets
 from forgetwhen.stories import story_readings
 from forgetwhen.ways import marks_needed
-from tests.support import LATCH, ODD_VALUES, RING, VALVE, Case, Chance, all_words, as_lists, mixed_machines, run
+from tests.support import LAST, LATCH, ODD_VALUES, RING, VALVE, Case, Chance, all_words, as_lists, mixed_machines, run
 
 FOUR = (((0,), (0,), (0,), (0,)), (0,))
 TURNS = (((0, 2, 0), (1, 1, 0)), (0, 0, 1))
@@ -319,6 +320,17 @@ class ToldMarksTest(Case):
                     self.is_just(told, self.by_force(machine, lateness, 6))
                     self.assertLessEqual(told[0], level + window(machine, lateness))
                     self.assertLessEqual(told[1], told[0] + window(machine, lateness))
+
+    def test_marks_ahead_of_the_window(self):
+        found = []
+        for machine in (VALVE, LAST, LATCH, steep_machine(3), steep_machine(4)):
+            for lateness in itertools.product((None, 0, 1, 2), repeat=2):
+                told = told_marks(machine, lateness)
+                if told is not None:
+                    self.is_just(told, self.by_force(machine, lateness, 6))
+                    found.append(told)
+        for told in ((2, 3), (2, 4), (3, 3), (4, 4)):
+            self.assertIn(told, found)
 
     def test_plain_ones(self):
         self.is_just(told_marks(VALVE, (None, None)), None)

@@ -75,6 +75,7 @@ class PanelMachineTest(Case):
         for odd in (3, -1, True, None, "0", (0,), 0, 1):
             self.refuses(InvalidLot, 2, panel_machine, PANEL, [0, 1, odd, odd])
         self.refuses(InvalidLot, 1, panel_machine, PANEL, (1, 0))
+        self.refuses(InvalidLot, 0, panel_machine, PANEL, (-1, 0))
 
     def test_needed(self):
         chance = Chance(45)
@@ -160,8 +161,9 @@ class PairNewsTest(Case):
     def test_by_force(self):
         chance = Chance(49)
         numbers = {}
-        for machine in mixed_machines(60, 50, states=4, kinds=2):
-            late = chance.lot(len(machine[0]))
+        for number in range(90):
+            machine = chance.machine(2 + number % 3, 1 + (number % 4 > 0), 2)
+            late = chance.pick(list(lots_of(len(machine[0]))))
             wild = []
             for pair in itertools.combinations(range(len(machine[1])), 2):
                 most = pair_news(machine, late, *pair)
@@ -171,7 +173,7 @@ class PairNewsTest(Case):
                     wild.append(pair)
                     self.ring_is_right(machine, late, pair)
                 else:
-                    words = all_words(len(machine[0]), 6)
+                    words = all_words(len(machine[0]), 5)
                     self.is_just(max(len(ends_by_force(machine, late, word, pair)) for word in words), most)
                     self.refuses(Refused, -1, wild_ring, machine, late, *pair)
             self.is_just(wild_pairs(machine, late), tuple(wild))
@@ -243,6 +245,20 @@ class RingHoldsTest(Case):
                 right = self.is_ring(machine, late, (0, 1), value)
                 self.assertIs(ring_holds(machine, late, 0, 1, value), right, value)
                 self.assertIs(ring_holds(machine, late, 1, 0, value), right, value)
+
+    def test_rings_of_greater_machines(self):
+        chance = Chance(53)
+        held = 0
+        for number in range(300):
+            machine = chance.machine(3 + number % 2, 2, 1)
+            late = chance.pick(((0,), (1,), (0, 1)))
+            pair = chance.pick(((0, 1), (0, 2), (1, 2)))
+            for _ in range(6):
+                value = tuple(chance.word(2, chance.below(4)) for _ in range(3))
+                right = self.is_ring(machine, late, pair, value)
+                held += right
+                self.assertIs(ring_holds(machine, late, *pair, value), right, (machine, late, pair, value))
+        self.assertGreater(held, 30)
 
     def test_long_words(self):
         self.assertIs(ring_holds(VALVE, (0, 1), 0, 1, ((0, 1) * 500, (0,) * 999, (0,) * 500)), True)

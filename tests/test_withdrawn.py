@@ -6,6 +6,7 @@ from forgetwhen.errors import InvalidGone, InvalidKind, InvalidLot, InvalidMomen
 from forgetwhen.least import least_machine
 from forgetwhen.machines import word_map
 from forgetwhen.needed import needed_news
+from forgetwhen.plants import kinds_apart
 from forgetwhen.twins import LeastTwin, record_row, row_form
 from forgetwhen.ways import marks_needed
 from forgetwhen.withdrawn import (
@@ -253,6 +254,14 @@ class WithdrawnTwinTest(Case):
                 for back in itertools.permutations([deed for deed in heard if deed[1] < 2]):
                     story = heard + tuple((moment, kind, 1) for moment, kind, _ in back)
                     self.follows(SPUN, (0, 1, 2), (0, 1), story)
+
+    def test_free_news_between_marks(self):
+        # News of kind 2 are free, they move a plant of their own.
+        turns = ((SPUN[0][0], SPUN[0][1]), SPUN[1])
+        machine, late = kinds_apart(turns, (0, 1), (((1, 0),), (0, 1)), (0,))
+        chance = Chance(49)
+        for _ in range(30):
+            self.follows(machine, late, (0, 1, 2), mixed_deeds(chance, machine, late, (0, 1, 2), 18))
 
     def test_prompt_kinds_withdrawn(self):
         self.follows(VALVE, (), (0,), ((10, 0, 0), (20, 1, 0), (30, 0, 0), (10, 0, 1), (40, 1, 0), (30, 0, 1)))
