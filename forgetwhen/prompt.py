@@ -56,7 +56,7 @@ def lots_within(machine, marks):
 def prompt_lots(machine):
     """The least lots that are to be made prompt so that all other kinds may come late."""
     machine = need_machine(machine)
-    every = range(len(machine[0]))
+    every = tuple(range(len(machine[0])))
     left = [tuple(kind for kind in every if kind not in lot) for lot in level_of(machine)]
     return least_lots(sorted(left))
 
