@@ -30,10 +30,10 @@ def stories_beyond(machine, twin, kind):
     stories = []
     for grown in (0, more):
         heard = many + grown
-        word = (*ahead, *(kind,) * (heard - len(ahead)))
+        in_order = deeds_in_order(ahead + (kind,) * (heard - len(ahead)))
         back = [(moment, kind, 1) for moment in range(len(ahead), heard) if not end <= moment < end + grown]
         on_end = [(heard + at, letter, 0) for at, letter in enumerate(tail)]
-        stories.append((*deeds_in_order(word), *back, *on_end))
+        stories.append((*in_order, *back, *on_end))
     return tuple(stories)
 
 
@@ -87,7 +87,8 @@ class Layout:
         """The news of a place, with what a paper of this place puts around it."""
         own = [(number, paper[2]) for number, (at, paper) in enumerate(papers) if at == place]
         ahead = [self.slot(put) for _, put in own]
-        self.heard.append((*self.taken(1), kind, 0))
+        news = self.taken(1)
+        self.heard.append((news[0], kind, 0))
         for number, put in own:
             self.around[number] = (ahead[0], self.slot(put))
 
@@ -136,5 +137,8 @@ def stories_amid(machine, late, gone, twin):
         between.extend(layout.deeds_of(slot))
     tail = papers[number][1][4]
     on_end = [(layout.ends + at, kind, 0) for at, kind in enumerate(tail)]
-    stories = [(*layout.heard, *layout.deeds_of(slot), *between, *on_end) for slot in layout.around[number]]
+    stories = []
+    for slot in layout.around[number]:
+        first = layout.deeds_of(slot)
+        stories.append((*layout.heard, *first, *between, *on_end))
     return tuple(stories)
