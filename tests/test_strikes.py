@@ -249,6 +249,23 @@ class WithdrawnStoriesTest(Case):
                 if not late:
                     self.assertTrue(any(deed[2] for deed in stories[0]))
 
+    def test_states_that_are_parted_later(self):
+        # What unlike states show is alike for now: words on end are wanted, of two kinds and more.
+        chance = Chance(51)
+        lengths = []
+        for shown in ((0, 0, 0, 1), (0, 0, 1), (0, 0, 0, 0, 1)):
+            many = len(shown)
+            turns = (*range(1, many), 0)
+            machine = ((turns, (1, 0, *range(2, many)), (0, *range(many - 1))), shown)
+            for late, gone in (((), (0, 1)), ((1,), (0,)), ((0, 1), ()), ((), (2,)), ((0,), (1, 2)), ((2,), (0,))):
+                for words, marks in ((1, 1), (3, 2)):
+                    twin = mixed_table(chance, 3, words, marks)
+                    one, other = self.deceived(machine, late, gone, twin, mixed_strikes(chance, gone, words, marks))
+                    shortest = min(len(one), len(other))
+                    ends = [at for at in range(1, shortest + 1) if one[-at][1:] != other[-at][1:] or one[-at][2]]
+                    lengths.append(min([*ends, shortest]))
+        self.assertGreater(max(lengths), 1)
+
     def test_kinds_that_are_not_one_to_one(self):
         twin, strikes = keeps_last(2, 2)
         stories = self.deceived(LAST, (), (0, 1), twin, strikes)
