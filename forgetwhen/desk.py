@@ -65,10 +65,9 @@ def number_or_none(number):
 
 def opened(command):
     """Another room by hand, of a command to open one."""
-    line, end, text = command.partition("\n")
+    # Where there are no further lines, the text is empty, and can't be read.
+    line, _, text = command.partition("\n")
     gone = [number_said(word) for word in line.split(" ")[1:]]
-    if end == "":
-        raise InvalidCommand()
     try:
         machine, late = read_machine(text)
     except InvalidText:

@@ -4,7 +4,9 @@ import copy
 import importlib
 
 from forgetwhen import errors
-from tests.support import RING, VALVE, Case, as_lists, has_list
+from forgetwhen.looks import case_file
+from tests.support import LAST, RING, VALVE, Case, as_lists, has_list
+from tests.test_strikes import keeps_last
 from tests.test_tables import CLOSING
 
 # Each argument: (name, a right value, a wrong one, its error, what this keeps). A value that may be anything has
@@ -12,6 +14,7 @@ from tests.test_tables import CLOSING
 PAPER = "paper"
 LEVEL = (((1, 1), (0, 0)), (0, 1))
 SWAP = ("swap", (0, 1, 0), (), 0, 1, ((0, 0),))
+KEEPS_LAST = keeps_last(2, 2)
 TESTS = ((1,), ((0, ("needed", ((),), 0, ((),), ())),))
 
 
@@ -122,6 +125,14 @@ def two_states(value=(0, 1)):
 
 def reader(value=((((0, 0), (1, 1)),), (0, 1))):
     return ("reader", value, ((((0, 0), (1, 2)),), (0, 1)), errors.InvalidPlant, 0)
+
+
+def strikes(value=KEEPS_LAST[1]):
+    return ("strikes", value, ((((((0, ()),) * 2,)), (((0, (1,)),) * 2,) * 3),), errors.InvalidTwin, 0)
+
+
+def table(value=KEEPS_LAST[0]):
+    return ("twin", value, (0, ((),), (0,)), errors.InvalidTwin, 0)
 
 
 def is_paper(argument):
@@ -347,6 +358,37 @@ CALLS = {
         "setters": [size("values", 3)],
         "places_read": [reader(), word((0, 0))],
         "reader_places": [reader()],
+    },
+    "strikes": {
+        "need_strikes": [
+            machine(), gone((1, 0)), table(), given(KEEPS_LAST[1], ((),), errors.InvalidTwin, 0),
+        ],
+        "withdrawn_stands": [
+            machine(), late(), gone((0, 1)), table(), strikes(), deeds(((5, 0, 0), (7, 1, 0), (5, 0, 1), (7, 1, 1))),
+        ],
+        "withdrawn_stories": [machine(LAST), late(), gone((0, 1)), table(), strikes()],
+    },
+    "prompt": {
+        "late_lots": [machine()],
+        "level_lots": [machine()],
+        "growing_lots": [machine()],
+        "prompt_lots": [machine()],
+        "lots_within": [machine(), marks(1)],
+        "easy_kinds": [machine()],
+        "freedoms": [machine()],
+        "bar_machine": [size("kinds", 3), ("lot", (0, 2), (2, 0), errors.InvalidLot, -1)],
+        "bar_machines": [size("kinds", 3), ("lots", ((0, 2), (1,)), ((0,), (0, 1)), errors.InvalidLot, 1)],
+        "shared_lots": [("machines", (VALVE, LAST), (VALVE, 3), errors.InvalidPlant, 1)],
+    },
+    "looks": {
+        "look_holds": [anything(("marks", (LAST, ()), ("level", 0, ((0,), (0,)), ())))],
+        "make_look": [
+            ("word", "marks", "mark", errors.Refused, "word"),
+            ("question", (VALVE, (0, 1)), (VALVE,), errors.Refused, "question"),
+        ],
+        "wrong_looks": [("values", (3, ()), 3, errors.Refused, "looks")],
+        "case_file": [no_least(), late(), marks(2)],
+        "case_holds": [no_least(), late((0,)), marks(1), anything(case_file(VALVE, (0,), 1))],
     },
     "ends": {
         "end_places": [no_least(), word()],

@@ -180,7 +180,7 @@ class FormsTest(DeskCase):
                     self.is_no_command(desk, command)
         for command in (
             "", " ", "\n", "none", "done", "close", "hear", "hear 1", "withdraw 1", "if", "if 0", "if 0 hear", "if 0 undo",
-            "if 0 hear 5", "if hear 5 0", "if 0 if 0 hear 5 0", "then", "at", "late", "alarms", "hear 5 \u0660",
+            "if 0 hear 5", "if hear 5 0", "if 0 hears 5 0", "if 0 at 5 0", "if 0 0 5 0", "if 0 if 0 hear 5 0", "then", "at", "late", "alarms", "hear 5 \u0660",
             "hear \u00b2 0", "hear 1 0 0", "hear 1 -1", "then -1", "open", "Open 0", "open0\n" + OPENED[7:],
         ):
             self.is_no_command(desk, command)

@@ -119,6 +119,20 @@ FUNCTIONS = {
         "by_words": "machine late words", "need_reader": "value", "read_by": "plant late reader",
         "setters": "values", "places_read": "reader word", "reader_places": "reader",
     },
+    "strikes": {
+        "need_strikes": "machine gone twin value",
+        "withdrawn_stands": "machine late gone twin strikes story",
+        "withdrawn_stories": "machine late gone twin strikes",
+    },
+    "prompt": {
+        "late_lots": "machine", "level_lots": "machine", "growing_lots": "machine", "prompt_lots": "machine",
+        "lots_within": "machine marks", "easy_kinds": "machine", "freedoms": "machine",
+        "bar_machine": "kinds lot", "bar_machines": "kinds lots", "shared_lots": "machines",
+    },
+    "looks": {
+        "look_holds": "value", "make_look": "word question", "wrong_looks": "values",
+        "case_file": "machine late marks", "case_holds": "machine late marks value",
+    },
 }
 
 # Each class with its parameters, and its methods with theirs.
@@ -145,6 +159,18 @@ CLASSES = {
             "hear": "moment kind", "withdraw": "moment kind", "marks": "", "row": "", "reading": "",
         }),
     },
+    "room": {
+        "Room": ("machine late gone", {
+            "take": "deed", "shown": "", "kept": "", "if_late": "kind", "alarms": "reading", "may_show": "",
+        }),
+    },
+    "live": {
+        "Live": ("machine late gone", {
+            "do_deed": "deed", "undo_deed": "", "redo_deed": "", "standing": "", "shown_at": "moment",
+            "shown_then": "number", "shown_if": "number deed",
+        }),
+    },
+    "desk": {"Desk": ("", {"say": "command"})},
 }
 
 
@@ -173,7 +199,7 @@ class InterfaceTest(unittest.TestCase):
                 told = getattr(found, name)
                 self.assertTrue(inspect.isclass(told), name)
                 self.assertEqual(told.__module__, f"forgetwhen.{module}", name)
-                self.takes(told.__init__, f"self {parameters}")
+                self.takes(told.__init__, f"self {parameters}".strip())
                 for method, wanted in methods.items():
                     self.assertIn(method, vars(told), name)
                     self.takes(vars(told)[method], f"self {wanted}")
