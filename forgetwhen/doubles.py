@@ -47,8 +47,7 @@ def grown_gap(twin, ahead, kind, turn):
     known = {}
     while True:
         if heard >= len(ahead):
-            for gap in range(len(marks) + 1):
-                end = (*marks, heard)[gap]
+            for gap, end in enumerate((*marks, heard)):
                 key = (word, marks[:gap], tuple(mark - end for mark in marks[gap:]), heard - end, heard % turn)
                 if end >= len(ahead) and key in known:
                     many, first_end = known[key]

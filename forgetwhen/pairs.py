@@ -6,12 +6,17 @@ from forgetwhen.roads import Roads, side_of, turned
 from forgetwhen.web import side_of_sets
 
 
+def flags_once(flags, maps):
+    """The flags, and those of pairs that one of these maps leads to one with a flag."""
+    return tuple(1 if flag or any(flags[one[at]] for one in maps) else 0 for at, flag in enumerate(flags))
+
+
 def flags_ahead(flags, maps):
     """The flags of all pairs that words of these maps lead to one with a flag."""
-    more = tuple(1 if flag or any(flags[one[at]] for one in maps) else 0 for at, flag in enumerate(flags))
-    while more != flags:
-        flags = more
-        more = tuple(1 if flag or any(flags[one[at]] for one in maps) else 0 for at, flag in enumerate(flags))
+    ahead = flags_once(flags, maps)
+    while ahead != flags:
+        flags = ahead
+        ahead = flags_once(flags, maps)
     return flags
 
 
@@ -56,7 +61,7 @@ class Pairs:
                     return True
         return False
 
-    def roads(self, one, other):
+    def roads_to(self, one, other):
         """The steps between sets and flags; those are needed whose news have the pair as ends."""
         kinds = tuple(range(len(self.maps)))
         sets, after, ahead = side_of_sets(self.gaps)

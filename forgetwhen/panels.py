@@ -129,7 +129,7 @@ def news_of_pair(pairs, one, other):
     # Without late kinds nothing is put in, and there is no need to go through all that may be behind.
     if not pairs.late:
         return 0
-    return most_marks(pairs.roads(one, other))
+    return most_marks(pairs.roads_to(one, other))
 
 
 def wild_of(machine, late):
@@ -150,7 +150,7 @@ def wild_ring(machine, late, one, other):
     pairs = Pairs(machine, late)
     if news_of_pair(pairs, one, other) is not None:
         raise Refused(-1)
-    roads = pairs.roads(one, other)
+    roads = pairs.roads_to(one, other)
     _, ring = roads.heights(0, 1)
     return words_of_ring(roads, ring)
 

@@ -100,33 +100,33 @@ class PastTwin:
         self.machine = need_machine(machine)
         self.late = need_late(self.machine, late)
         self.gaps = Gaps(self.machine, self.late)
-        self.kept = ()
+        self.news = ()
 
     def hear(self, moment, kind):
         """News that come into the room."""
         need_moment(moment)
-        below = tuple(news for news in self.kept if news[0] < moment)
-        above = self.kept[len(below):]
+        below = tuple(news for news in self.news if news[0] < moment)
+        above = self.news[len(below):]
         if above and above[0][0] == moment:
             raise InvalidMoment(-1)
         if not is_kind_at(self.machine, self.late, kind, not above):
             raise InvalidKind(-1)
         news = (*below, (moment, kind), *above)
         places = moving_along(self.gaps, [self.machine[0][own] for _, own in news])
-        self.kept = tuple(news[place] for place in places)
+        self.news = tuple(news[place] for place in places)
 
     def marks(self):
         """The moments that are kept, ascending."""
-        return tuple(moment for moment, _ in self.kept)
+        return tuple(moment for moment, _ in self.news)
 
     def kept_kinds(self):
         """The kinds of the marks, by moments."""
-        return tuple(kind for _, kind in self.kept)
+        return tuple(kind for _, kind in self.news)
 
     def state_then(self, moment):
         """The state that the news up to a moment lead to."""
         need_moment(moment)
-        return state_behind(self.machine[0], 0, [kind for mark, kind in self.kept if mark <= moment])
+        return state_behind(self.machine[0], 0, [kind for mark, kind in self.news if mark <= moment])
 
 
 def moving_roads(gaps):

@@ -31,7 +31,8 @@ def growing_of(machine):
 def late_lots(machine):
     """Pairs (lot, marks needed if it comes late, or None), lots of fewer kinds first."""
     marks = marks_by_lots(need_machine(machine))
-    return tuple((lot, marks[lot]) for _, lot in sorted([(len(lot), lot) for lot in marks]))
+    ordered = sorted([(len(lot), lot) for lot in marks])
+    return tuple((lot, marks[lot]) for _, lot in ordered)
 
 
 def level_lots(machine):
@@ -151,7 +152,7 @@ def need_plants(value):
             machine = need_machine(plant)
         except InvalidMachine:
             raise InvalidPlant(at) from None
-        if len(machine[0]) != len((*machines, machine)[0][0]):
+        if machines and len(machine[0]) != len(machines[0][0]):
             raise InvalidPlant(at)
         machines.append(machine)
     return tuple(machines)

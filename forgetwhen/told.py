@@ -94,7 +94,8 @@ def most_beyond(gaps, relations):
     raised = True
     while raised:
         raised = False
-        for node, many in steps_between(gaps, most, gaps.beyond, relations, gaps.beyond, False):
+        steps = steps_between(gaps, most, gaps.beyond, relations, gaps.beyond, False)
+        for node, many in steps:
             raised = raise_to(most, node, many) or raised
     return most
 
@@ -123,7 +124,8 @@ def most_told(gaps, rows, keeps_window):
         # A record may begin here, too.
         nearer = {(gaps.with_behind(left).first, classes): 0 for classes in rows[left]}
         kept = keeps_window and left < gaps.window
-        for node, many in steps_between(gaps, most, left + 1, rows[left], left, kept):
+        steps = steps_between(gaps, most, left + 1, rows[left], left, kept)
+        for node, many in steps:
             raise_to(nearer, node, many)
         most = nearer
     return max(most.values())

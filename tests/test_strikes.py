@@ -241,7 +241,7 @@ class WithdrawnStoriesTest(Case):
     def test_kinds_wanted_late_that_may_be_withdrawn(self):
         chance = Chance(50)
         turns = (((1, 2, 0), (1, 0, 2)), (0, 1, 2))
-        for _ in range(20):
+        for _ in range(150):
             twin = mixed_table(chance, 2, 3, 2)
             for late, gone in (((), (0, 1)), ((), (0,)), ((0,), (1,)), ((1,), (0,))):
                 strikes = mixed_strikes(chance, gone, 3, 2)
