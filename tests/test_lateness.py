@@ -2,7 +2,7 @@
 
 import itertools
 
-from forgetwhen.errors import InvalidKind, InvalidLateness, InvalidMoment, InvalidStory
+from forgetwhen.errors import InvalidKind, InvalidLateness, InvalidMachine, InvalidMoment, InvalidStory
 from forgetwhen.late import steep_machine
 from forgetwhen.lateness import (
     WindowTwin, gap_kinds, need_lateness, need_told, told_marks, told_needed, told_relations, told_sets, window,
@@ -286,6 +286,7 @@ class WindowTwinTest(Case):
 
     def test_errors_of_arguments(self):
         self.refuses(InvalidLateness, 1, WindowTwin, VALVE, (0, 13))
+        self.refuses(InvalidMachine, -1, WindowTwin, 3, 3)
 
     def test_side_by_side(self):
         one, other = WindowTwin(VALVE, [1, 1]), WindowTwin(machine=as_lists(VALVE), lateness=(1, 1))

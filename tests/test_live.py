@@ -150,6 +150,16 @@ class LiveTest(Case):
         live = Live(machine=as_lists(DOUBLE), late=[], gone=[0])
         self.is_just((type(live.room), live.room.machine, live.deeds), (Room, DOUBLE, ()))
 
+    def test_lists_that_were_handed_in(self):
+        machine, late, deed = as_lists(VALVE), [0], [10, 0, 0]
+        live = Live(machine, late, late)
+        live.do_deed(deed)
+        self.is_just((machine, late, deed), (as_lists(VALVE), [0], [10, 0, 0]))
+        machine[0][0][0], deed[0] = 0, 99
+        late.append(1)
+        self.is_just((live.deeds, live.room.machine, live.room.late, live.room.gone), (((10, 0, 0),), VALVE, (0,), (0,)))
+        self.is_just((live.undo_deed(), live.redo_deed(), live.room.shown()), (True, True, 1))
+
     def test_side_by_side(self):
         one, other = Live(SPUN, (0,), (1,)), Live(SPUN, (0,), (1,))
         one.do_deed((5, 0, 0))

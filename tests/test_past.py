@@ -2,7 +2,7 @@
 
 import itertools
 
-from forgetwhen.errors import InvalidIndex, InvalidKind, InvalidMoment
+from forgetwhen.errors import InvalidIndex, InvalidKind, InvalidLate, InvalidMachine, InvalidMoment
 from forgetwhen.needed import needed_news, word_sets
 from forgetwhen.past import (
     PastTwin, past_holds, past_marks, past_marks_hold, past_marks_paper, past_moments, past_needed, past_paper,
@@ -191,6 +191,10 @@ class PastTwinTest(Case):
         twin.hear(31, 1)
         self.is_just(twin.marks(), (10, 20, 25, 30, 31))
 
+    def test_errors_of_arguments(self):
+        self.refuses(InvalidMachine, -1, PastTwin, 3, 3)
+        self.refuses(InvalidLate, 1, PastTwin, VALVE, (0, 0))
+
     def test_side_by_side(self):
         one, other = PastTwin(VALVE, [0]), PastTwin([[[1, 0], [0, 0]], [0, 1]], late=(0,))
         one.hear(5, 0)
@@ -288,6 +292,32 @@ class PastMarksTest(Case):
         self.assertIs(past_marks_hold(VALVE, (), ("grows", (0,), (1,))), False)
         # It moves on its way ahead alone.
         self.assertIs(past_marks_hold(LATCH, (), ("grows", (0,), (0,))), False)
+
+    def test_changed_rings(self):
+        held = 0
+        for machine, late in ((VALVE, (0,)), (RING, ()), (LAST, (0,))):
+            paper = past_marks_paper(machine, late)
+            self.assertEqual(paper[0], "grows")
+            for value in changed_papers(paper):
+                right = self.is_ring(machine, late, value)
+                held += right
+                self.assertIs(past_marks_hold(machine, late, value), right, value)
+            _, ahead, ring = paper
+            self.assertIs(past_marks_hold(machine, late, ("grows", ahead, ring + ring)), True)
+            self.assertIs(past_marks_hold(machine, late, ("grows", ahead + ring, ring)), True)
+        self.assertGreater(held, 0)
+
+    def is_ring(self, machine, late, value):
+        if has_list(value) or not isinstance(value, tuple) or len(value) != 3 or value[0] != "grows":
+            return False
+        if not all(isinstance(word, tuple) and all(type(k) is int for k in word) for word in value[1:]):
+            return False
+        if not all(0 <= k < len(machine[0]) for word in value[1:] for k in word):
+            return False
+        _, ahead, ring = value
+        sets = word_sets(machine, late, ahead + ring)
+        moving = moving_by_force(machine, late, ahead + ring)
+        return sets[-1] == sets[len(ahead)] and any(place >= len(ahead) for place in moving)
 
     def test_any_value(self):
         for value in ODD_VALUES:

@@ -96,6 +96,7 @@ class KindsApartTest(Case):
         self.refuses(InvalidSize, "states", kinds_apart, eight, (), TURN, ())
         self.refuses(InvalidSize, "states", kinds_apart, ONE_KIND, (), ONE_KIND, ())
         self.assertEqual(len(kinds_apart(eight, (), (((0,),), (0,)), ())[0][1]), 8)
+        self.assertEqual(len(kinds_apart((((1, 2, 3, 0),), (0, 1, 2, 3)), (), TURN, ())[0][1]), 8)
 
     def test_order_of_errors(self):
         four = (((0,),) * 4, (0,))
@@ -131,6 +132,9 @@ class KindsSharedTest(Case):
         self.refuses(InvalidMachine, -1, kinds_shared, VALVE, 3)
         eight = (((1, 2, 3, 4, 5, 6, 7, 0),), tuple(range(8)))
         self.refuses(InvalidSize, "states", kinds_shared, eight, ONE_KIND)
+        self.assertEqual(len(kinds_shared(eight, TURN)[1]), 8)
+        steps = (((1, 2, 2), (0, 0, 0)), (0, 1, 2)), (((0, 0, 0), (1, 2, 2)), (0, 1, 2))
+        self.assertEqual(len(kinds_shared(*steps)[1]), 5)
         self.is_just(kinds_shared(TURN, TURN), (((1, 0),), (0, 1)))
         self.is_just(kinds_shared(TURN, (((0, 0),), (5, 6))), (((1, 0),), (0, 1)))
 
@@ -187,6 +191,12 @@ class RelayedTest(Case):
         self.refuses(InvalidState, 7, relayed, eight, TURN, (0,) * 7 + (2,))
         self.refuses(InvalidSize, "states", relayed, eight, TURN, (0,) * 8)
         self.assertEqual(len(relayed((((0,),) * 3, (0,)), (((0,),) * 3, (0,)), (0,))[0]), 4)
+        # Eight states in all, and nine.
+        four = (((1, 2, 3, 0),), (0, 1, 2, 3))
+        five = (((1, 2, 3, 4, 0),), (0, 1, 2, 3, 4))
+        self.assertEqual(len(relayed(four, four, (0, 1, 2, 3))[1]), 8)
+        self.refuses(InvalidSize, "states", relayed, four, five, (0, 1, 2, 3))
+        self.refuses(InvalidSize, "states", relayed, five, four, (0, 1, 2, 3, 0))
 
 
 class ByWordsTest(Case):
@@ -297,6 +307,11 @@ class ReadByTest(Case):
         self.refuses(InvalidSize, "states", read_by, eight, (), SETS)
         self.refuses(InvalidSize, "values", read_by, (eight[0], (0, 2) * 4), (), SETS)
         self.assertEqual(read_by(VALVE, [0], SETS)[1], (0,))
+        # Eight states in all, and nine.
+        three, four = (((1, 2, 0),), (0, 1, 1)), (((1, 2, 3, 0),), (0, 1, 1, 0))
+        steps = ((((0, 1, 2), (1, 2, 0)),), (0, 1, 2))
+        self.assertEqual(len(read_by(four, (), ((((0, 1), (1, 0)),), (0, 1)))[0][1]), 8)
+        self.refuses(InvalidSize, "states", read_by, three, (), steps)
 
 
 class SettersTest(Case):

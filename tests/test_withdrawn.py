@@ -2,7 +2,9 @@
 
 import itertools
 
-from forgetwhen.errors import InvalidGone, InvalidKind, InvalidLot, InvalidMoment, Refused
+from forgetwhen.errors import (
+    InvalidGone, InvalidKind, InvalidLate, InvalidLot, InvalidMachine, InvalidMoment, Refused,
+)
 from forgetwhen.least import least_machine
 from forgetwhen.machines import word_map
 from forgetwhen.needed import needed_news
@@ -282,6 +284,8 @@ class WithdrawnTwinTest(Case):
         self.refuses(Refused, 0, WithdrawnTwin, LAST, (0, 1), (1, 0))
         self.refuses(Refused, 2, WithdrawnTwin, SPUN, (0,), (2, 1))
         self.refuses(InvalidLot, 1, WithdrawnTwin, SPUN, (0,), (2, 2))
+        self.refuses(InvalidMachine, -1, WithdrawnTwin, 3, 3, 3)
+        self.refuses(InvalidLate, -1, WithdrawnTwin, SPUN, 3, 3)
         self.assertIsNone(WithdrawnTwin(DOUBLE, [], [0]).withdraw(5, 0))
 
     def test_refusals(self):
