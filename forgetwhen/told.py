@@ -77,7 +77,7 @@ def relations_by_behind(gaps):
 
 
 def raise_to(most, node, many):
-    """Whether so many at a node are more than were known."""
+    """Keeps that there may be so many at a node; whether fewer were known."""
     if most.get(node, -1) >= many:
         return False
     most[node] = many

@@ -262,6 +262,59 @@ class LanguageTest(unittest.TestCase):
 
         self.in_each(look)
 
+    def test_stars_in_calls(self):
+        def look(path):
+            for node in ast.walk(parsed(path)):
+                if isinstance(node, ast.Call):
+                    for part in node.args:
+                        value = getattr(part, "value", None)
+                        plain = isinstance(value, (ast.Name, ast.List, ast.Tuple))
+                        off_name = isinstance(value, ast.Attribute) and isinstance(value.value, ast.Name)
+                        if isinstance(part, ast.Starred) and not (plain or off_name):
+                            yield node
+
+        self.in_each(look)
+
+    def test_beside_generator_expressions(self):
+        def look(path):
+            for node in ast.walk(parsed(path)):
+                if isinstance(node, ast.Call) and any(isinstance(part, ast.GeneratorExp) for part in node.args):
+                    others = [part for part in node.args if not isinstance(part, ast.GeneratorExp)]
+                    others += [keyword.value for keyword in node.keywords]
+                    if not all(isinstance(part, (ast.Name, ast.Constant)) for part in others):
+                        yield node
+
+        self.in_each(look)
+
+    def test_methods_and_attributes_have_unlike_names(self):
+        methods, attributes = set(), set()
+        for path in FILES:
+            for node in ast.walk(parsed(path)):
+                if isinstance(node, ast.ClassDef):
+                    methods |= {part.name for part in node.body if isinstance(part, ast.FunctionDef)}
+                if isinstance(node, ast.Attribute) and isinstance(node.ctx, ast.Store):
+                    attributes.add(node.attr)
+        self.assertEqual(methods & attributes, set())
+
+    def test_inner_names_are_new(self):
+        """The variables of a comprehension inside of another one, or of a lambda, are not those further out."""
+        scopes = (ast.ListComp, ast.SetComp, ast.DictComp, ast.GeneratorExp, ast.Lambda)
+
+        def own_names(node):
+            if isinstance(node, ast.Lambda):
+                return {part.arg for part in node.args.args}
+            return {name for part in node.generators for name in bound_names(part.target)}
+
+        def look(path):
+            for node in ast.walk(with_parents(parsed(path))):
+                further = getattr(node, "parent", None)
+                while isinstance(node, scopes) and further is not None:
+                    if isinstance(further, scopes) and own_names(node) & own_names(further):
+                        yield node
+                    further = getattr(further, "parent", None)
+
+        self.in_each(look)
+
     def test_raises(self):
         def look(path):
             for node in ast.walk(parsed(path)):
