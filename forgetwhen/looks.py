@@ -3,9 +3,7 @@
 from forgetwhen.checks import is_row, is_row_of, is_tuple_of
 from forgetwhen.counts import counts_hold, counts_paper
 from forgetwhen.court import court_holds, court_paper
-from forgetwhen.deceivers import (
-    deceiving_tests, judge_twin, judged_holds, need_marks, tests_hold,
-)
+from forgetwhen.deceivers import deceiving_tests, judge_twin, judged_holds, need_marks, tests_hold
 from forgetwhen.errors import InvalidSize, InvalidTwin, Refused, TwinError
 from forgetwhen.fewest import least_twin
 from forgetwhen.least import alike_holds, alike_paper, need_least
