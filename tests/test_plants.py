@@ -5,7 +5,8 @@ import itertools
 from forgetwhen.errors import (
     InvalidLate, InvalidLot, InvalidMachine, InvalidPlant, InvalidSize, InvalidState, InvalidWord,
 )
-from forgetwhen.machines import word_readings
+from forgetwhen.least import rounds
+from forgetwhen.machines import reach_words, word_readings
 from forgetwhen.plants import (
     by_words, kinds_apart, kinds_shared, need_reader, places_read, read_by, reader_places, relayed, setters,
 )
@@ -139,6 +140,14 @@ class KindsSharedTest(Case):
         self.is_just(kinds_shared(TURN, (((0, 0),), (5, 6))), (((1, 0),), (0, 1)))
 
 
+def begun(machine, begin):
+    """The machine with another begin: it and 0 have changed names."""
+    names = list(range(len(machine[1])))
+    names[0], names[begin] = begin, 0
+    maps = tuple(tuple(names[one[name]] for name in names) for one in machine[0])
+    return (maps, tuple(machine[1][name] for name in names))
+
+
 class RelayedTest(Case):
     def test_entry_by_entry(self):
         chance = Chance(52)
@@ -177,6 +186,30 @@ class RelayedTest(Case):
                 names = {name: reading for name, reading in zip(wanted, shown)}
                 self.assertEqual([names[name] for name in wanted], list(shown))
                 self.assertEqual(len(set(names.values())), len(names))
+
+    def test_marks(self):
+        chance = Chance(62)
+        told = []
+        for _ in range(400):
+            kinds = 1 + chance.below(2)
+            one, other = [chance.machine(1 + chance.below(3), kinds, 2) for _ in range(2)]
+            begins = tuple(chance.below(len(other[1])) for _ in one[1])
+            late = chance.lot(kinds)
+            both = unless_too_many(relayed, one, other, begins)
+            if both is None:
+                continue
+            # The first plant, read together with what the other one makes of its begin.
+            alike = rounds(other)[-1]
+            shown = [(reading, alike[begin]) for reading, begin in zip(one[1], begins)]
+            first = (one[0], tuple(sorted(set(shown)).index(pair) for pair in shown))
+            reached = {begin for begin, word in zip(begins, reach_words(one)) if word is not None}
+            parts = [marks_needed(begun(other, begin), late) for begin in sorted(reached)]
+            parts.append(marks_needed(first, late))
+            most = marks_needed(both, late)
+            told.append(most)
+            self.assertEqual(most is None, None in parts)
+            self.assertTrue(most is None or most <= 1 + sum(parts))
+        self.assertGreater(min(told.count(None), told.count(1)), 10)
 
     def test_errors(self):
         four = (((0,),) * 4, (0,))
